@@ -1,0 +1,1 @@
+"""Vasttypes: types of programs whose texts nobody can print."""
