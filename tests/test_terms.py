@@ -253,6 +253,56 @@ class FreeNames(unittest.TestCase):
         self.assert_free(sized(400), "x")
 
 
+def plain_walk(term):
+    """The terms within a term of records, withs, ints and vars, in the order in which they begin."""
+    within = {"var": [], "int": [], "record": [inner for _, inner in term[1]] if term[0] == "record" else [],
+              "with": [term[1], term[-1]]}[term[0]]
+    return [term] + [found for inner in within for found in plain_walk(inner)]
+
+
+class ManyPaths(unittest.TestCase):
+    LABELS = ["a", "aa", "b", "bcd", "c", "count", "d", "e", "function", "g", "index", "z"]
+
+    def term(self):
+        inner = ("with", ("record", [(label, X) for label in self.LABELS]), "z", ("int", 7))
+        return ("with", ("record", [(label, inner) for label in self.LABELS]), "z", inner)
+
+    def test_all_paths_of_one_term(self):
+        term = self.term()
+        expected = plain_walk(term)
+        self.assertEqual(node_count(term), 197)
+        for path, inner in zip(paths(term), expected, strict=True):
+            self.assertEqual(term_at(term, path), inner)
+            self.assertEqual(term_at(path=path, term=term), inner)
+            found = term_at(term, path)
+            self.assertEqual(repr(found), repr(inner))
+            if found[0] == "record":
+                self.assertIsNot(found[1], inner[1])
+        self.assertEqual(repr(term), repr(self.term()))
+
+    def test_changes_between_calls(self):
+        term = self.term()
+        # The inner term stands at many places, and the first one counts.
+        fields_within = term[1][1][3][1][1][1]
+        before = list(fields_within)
+        for k in range(12):
+            fields_within[k] = ("Wrong", X)
+            self.assertEqual(fault(term_at, term, (0, 0, 0)), (InvalidTerm, (0, 0, 0)))
+            self.assertEqual(fault(term_at, term, (5,)), (InvalidTerm, (0, 0, 0)))
+            fields_within[k] = (before[k][0], None)
+            self.assertEqual(fault(term_at, term, ()), (InvalidTerm, (0, 0, 0, k)))
+            fields_within[k] = (before[k][0], Y)
+            self.assertEqual(term_at(term, (0, 0, 0, k)), Y)
+            fields_within[k] = before[k]
+        self.assertEqual(repr(term), repr(self.term()))
+
+    def test_names_of_every_length(self):
+        for name in ("a", "z", "ab", "abcdefgh", "zzzzzzzz"):
+            self.assertEqual(term_at(("app", ("var", name), X), (0,)), ("var", name))
+        for name in ("", "abcdefghi", "aB", "a1", "a ", "ab_"):
+            self.assertEqual(fault(term_at, ("app", ("var", name), X), (0,)), (InvalidTerm, (0,)))
+
+
 class Errors(unittest.TestCase):
     def assert_all(self, value, *expected):
         for function in ALL:

@@ -11,23 +11,6 @@ MOST_ITEMS = 6
 MOST_FIELDS = 12
 GREATEST = 10 ** 30
 
-# What stands behind the first word of a node, slot by slot.
-SHAPES = {
-    "var": ("name",),
-    "int": ("constant",),
-    "bool": ("truth",),
-    "fun": ("name", "term"),
-    "app": ("term", "term"),
-    "let": ("name", "term", "term"),
-    "rec": ("name", "function", "term"),
-    "if": ("term", "term", "term"),
-    "tuple": ("items",),
-    "part": ("number", "size", "term"),
-    "record": ("fields",),
-    "field": ("term", "name"),
-    "with": ("term", "name", "term"),
-}
-
 # The numbers of the terms within a node in which the name of the node is bound.
 BOUND_IN = {"fun": (0,), "let": (1,), "rec": (0, 1)}
 
@@ -36,42 +19,15 @@ def is_name(value):
     """Tell whether a value is a name."""
     if not isinstance(value, str) or not 1 <= len(value) <= MOST_LETTERS:
         return False
-    return all(["a" <= sign <= "z" for sign in value])
+    return value.isascii() and value.isalpha() and value.islower()
 
 
-def is_constant(value):
-    """Tell whether a value can stand in an int."""
-    return is_integer_within(value, -GREATEST, GREATEST)
-
-
-def is_truth(value):
-    """Tell whether a value is True or False."""
-    return isinstance(value, bool)
-
-
-def is_number_of_item(value):
-    """Tell whether a value is the number of an item in a tuple of the greatest size."""
-    return is_integer_within(value, 0, MOST_ITEMS - 1)
-
-
-def is_size(value):
-    """Tell whether a value is the size of a tuple."""
-    return is_integer_within(value, LEAST_ITEMS, MOST_ITEMS)
-
-
-def is_anything(value):
-    """Return True, since a term within a node is looked at as a node of its own."""
+def are_ascending(names):
+    """Tell whether each of the names in a list is above the one before it."""
+    for k in range(len(names) - 1):
+        if names[k] >= names[k + 1]:
+            return False
     return True
-
-
-def begins_as_function(value):
-    """Tell whether a value is a tuple that begins with "fun", whatever else it has."""
-    return isinstance(value, tuple) and len(value) > 0 and value[0] == "fun"
-
-
-def is_list_of_items(value):
-    """Tell whether a value is a list with as many items as a tuple can have."""
-    return isinstance(value, list) and LEAST_ITEMS <= len(value) <= MOST_ITEMS
 
 
 def is_field(value):
@@ -79,92 +35,145 @@ def is_field(value):
     return isinstance(value, tuple) and len(value) == 2 and is_name(value[0])
 
 
-def is_list_of_fields(value):
-    """Tell whether a value is a list of fields as a record can have them."""
-    if not isinstance(value, list) or len(value) > MOST_FIELDS:
+def are_fields(value, most):
+    """Tell whether a value is a list of at most so many fields with ascending names."""
+    if not isinstance(value, list) or len(value) > most:
         return False
-    if not all([is_field(field) for field in value]):
-        return False
-    names = [field[0] for field in value]
-    return names == sorted(set(names))
+    for field in value:
+        if not is_field(field):
+            return False
+    return are_ascending([name for name, _ in value])
 
 
-FITS = {
-    "name": is_name,
-    "constant": is_constant,
-    "truth": is_truth,
-    "number": is_number_of_item,
-    "size": is_size,
-    "term": is_anything,
-    "function": begins_as_function,
-    "items": is_list_of_items,
-    "fields": is_list_of_fields,
+def are_items(value):
+    """Tell whether a value is a list with as many items as a tuple can have."""
+    return isinstance(value, list) and LEAST_ITEMS <= len(value) <= MOST_ITEMS
+
+
+def begins_as_function(value):
+    """Tell whether a value is a tuple that begins with "fun", whatever else it has."""
+    return isinstance(value, tuple) and len(value) > 0 and value[0] == "fun"
+
+
+def inner_of_var(node):
+    """Return the terms within a var, None if its form is wrong; the next functions do so for the other kinds."""
+    return () if len(node) == 2 and is_name(node[1]) else None
+
+
+def inner_of_int(node):
+    """Return the terms within an int."""
+    return () if len(node) == 2 and is_integer_within(node[1], -GREATEST, GREATEST) else None
+
+
+def inner_of_bool(node):
+    """Return the terms within a bool."""
+    return () if len(node) == 2 and isinstance(node[1], bool) else None
+
+
+def inner_of_fun(node):
+    """Return the terms within a fun."""
+    return node[2:] if len(node) == 3 and is_name(node[1]) else None
+
+
+def inner_of_app(node):
+    """Return the terms within an app."""
+    return node[1:] if len(node) == 3 else None
+
+
+def inner_of_let(node):
+    """Return the terms within a let."""
+    return node[2:] if len(node) == 4 and is_name(node[1]) else None
+
+
+def inner_of_rec(node):
+    """Return the terms within a rec."""
+    return node[2:] if len(node) == 4 and is_name(node[1]) and begins_as_function(node[2]) else None
+
+
+def inner_of_if(node):
+    """Return the terms within an if."""
+    return node[1:] if len(node) == 4 else None
+
+
+def inner_of_tuple(node):
+    """Return the terms within a tuple."""
+    return node[1] if len(node) == 2 and are_items(node[1]) else None
+
+
+def inner_of_part(node):
+    """Return the terms within a part."""
+    if len(node) != 4 or not is_integer_within(node[2], LEAST_ITEMS, MOST_ITEMS):
+        return None
+    return node[3:] if is_integer_within(node[1], 0, node[2] - 1) else None
+
+
+def inner_of_record(node):
+    """Return the terms within a record."""
+    if len(node) != 2 or not are_fields(node[1], MOST_FIELDS):
+        return None
+    return [term for _, term in node[1]]
+
+
+def inner_of_field(node):
+    """Return the terms within a field."""
+    return node[1:2] if len(node) == 3 and is_name(node[2]) else None
+
+
+def inner_of_with(node):
+    """Return the terms within a with."""
+    return (node[1], node[3]) if len(node) == 4 and is_name(node[2]) else None
+
+
+INNER_OF = {
+    "var": inner_of_var,
+    "int": inner_of_int,
+    "bool": inner_of_bool,
+    "fun": inner_of_fun,
+    "app": inner_of_app,
+    "let": inner_of_let,
+    "rec": inner_of_rec,
+    "if": inner_of_if,
+    "tuple": inner_of_tuple,
+    "part": inner_of_part,
+    "record": inner_of_record,
+    "field": inner_of_field,
+    "with": inner_of_with,
 }
 
 
-def fits_slot(slot, held):
-    """Tell whether a value can stand in a slot."""
-    fits = FITS[slot]
-    return fits(held)
+def inner_terms(value):
+    """Return the terms directly within a node in their order, whatever they are; None for what is of no kind."""
+    if not isinstance(value, tuple) or not value or not isinstance(value[0], str) or value[0] not in INNER_OF:
+        return None
+    inner_of = INNER_OF[value[0]]
+    return inner_of(value)
 
 
-def is_of_a_kind(value):
-    """Tell whether a value is a tuple of a kind of term, apart from the terms within it."""
-    if not isinstance(value, tuple) or not value or not isinstance(value[0], str):
-        return False
-    if value[0] not in SHAPES or len(value) != len(SHAPES[value[0]]) + 1:
-        return False
-    if not all([fits_slot(slot, held) for slot, held in slots_of(value)]):
-        return False
-    return value[0] != "part" or value[1] < value[2]
+def levels_if_term(value):
+    """Return the list that tells for each depth which nodes of a term are there, None for a value that is no term.
+
+    The nodes are looked at depth by depth, since this needs no paths: what is wrong with a value that is no term
+    is looked for by itself.
+    """
+    levels = []
+    count = 0
+    level = (value,)
+    while level:
+        count += len(level)
+        if count > MOST_NODES or len(levels) == MOST_DEPTH:
+            return None
+        levels.append(level)
+        below = []
+        for node in level:
+            inner = inner_terms(node)
+            if inner is None:
+                return None
+            below.extend(inner)
+        level = below
+    return levels
 
 
-def slots_of(node):
-    """Return the list of the slots of a node, each with what stands in it."""
-    return list(zip(SHAPES[node[0]], node[1:]))
-
-
-def inner_terms(node):
-    """Return the list of the terms directly within a node."""
-    found = []
-    for slot, held in slots_of(node):
-        if slot == "term" or slot == "function":
-            found.append(held)
-        elif slot == "items":
-            found.extend(held)
-        elif slot == "fields":
-            found.extend([field[1] for field in held])
-    return found
-
-
-def with_inner_terms(node, inner):
-    """Return a new node like a node, with other terms directly within it."""
-    built = [node[0]]
-    used = 0
-    for slot, held in slots_of(node):
-        if slot == "term" or slot == "function":
-            built.append(inner[used])
-            used += 1
-        elif slot == "items":
-            built.append(list(inner))
-        elif slot == "fields":
-            built.append([(field[0], term) for field, term in zip(held, inner)])
-        else:
-            built.append(held)
-    return tuple(built)
-
-
-def check_node(value, path, number):
-    """Raise the error of the node with this path and number, if there is one."""
-    if number == MOST_NODES:
-        raise LimitExceeded(MOST_NODES)
-    if len(path) == MOST_DEPTH:
-        raise LimitExceeded(MOST_DEPTH)
-    if not is_of_a_kind(value):
-        raise InvalidTerm(path)
-
-
-def checked_nodes(value):
+def nodes_with_paths(value):
     """Return the list of tuples (path, node) of a term, in the order in which the nodes begin.
 
     Raise the error of the first node that has one. A list of what waits takes the place
@@ -174,41 +183,54 @@ def checked_nodes(value):
     waiting = [((), value)]
     while waiting:
         path, node = waiting.pop()
-        check_node(node, path, len(found))
+        if len(found) == MOST_NODES:
+            raise LimitExceeded(MOST_NODES)
+        if len(path) == MOST_DEPTH:
+            raise LimitExceeded(MOST_DEPTH)
+        inner = inner_terms(node)
+        if inner is None:
+            raise InvalidTerm(path)
         found.append((path, node))
-        for step, inner in reversed(list(enumerate(inner_terms(node)))):
-            waiting.append((path + (step,), inner))
+        for step in range(len(inner) - 1, -1, -1):
+            waiting.append((path + (step,), inner[step]))
     return found
+
+
+def levels_of(term):
+    """Return the list that tells for each depth which nodes of a term are there."""
+    levels = levels_if_term(term)
+    if levels is None:
+        nodes_with_paths(term)
+    return levels
 
 
 def check_term(value):
     """Raise the error of the first node of a value that keeps it from being a term."""
-    checked_nodes(value)
+    levels_of(value)
 
 
 def node_count(term):
     """Return how many nodes a term has."""
-    return len(checked_nodes(term))
+    return sum([len(level) for level in levels_of(term)])
 
 
 def depth(term):
     """Return how deep a term is."""
-    return 1 + max([len(path) for path, _ in checked_nodes(term)])
+    return len(levels_of(term))
 
 
 def paths(term):
     """Return the list of the paths of all nodes of a term, in the order in which these begin."""
-    return [path for path, _ in checked_nodes(term)]
+    return [path for path, _ in nodes_with_paths(term)]
 
 
 def copied(term):
-    """Return a term equal to a term that shares no list with it."""
-    copies = []
-    for _, node in reversed(checked_nodes(term)):
-        # The nodes come from the last one on, so the copy of the first inner term is on top.
-        inner = [copies.pop() for _ in inner_terms(node)]
-        copies.append(with_inner_terms(node, inner))
-    return copies[0]
+    """Return a term equal to a term that has been checked, with new tuples and lists throughout."""
+    if term[0] == "tuple":
+        return ("tuple", [copied(item) for item in term[1]])
+    if term[0] == "record":
+        return ("record", [(name, copied(inner)) for name, inner in term[1]])
+    return tuple([copied(held) if isinstance(held, tuple) else held for held in term])
 
 
 def node_at(term, path):
@@ -230,22 +252,24 @@ def term_at(term, path):
     return copied(node_at(term, path))
 
 
-def bound_within(node, step, bound):
-    """Return the names that are bound in inner term number step of a node, given those around."""
-    if step in BOUND_IN.get(node[0], ()):
-        return bound + (node[1],)
-    return bound
+def free_uses(term):
+    """Return the list of the free names of a term that has been checked, each as often as it occurs, in this order."""
+    found = []
+    waiting = [(term, ())]
+    while waiting:
+        node, bound = waiting.pop()
+        if node[0] == "var":
+            if node[1] not in bound:
+                found.append(node[1])
+            continue
+        inner = inner_terms(node)
+        binding = BOUND_IN.get(node[0], ())
+        for step in range(len(inner) - 1, -1, -1):
+            waiting.append((inner[step], bound + (node[1],) if step in binding else bound))
+    return found
 
 
 def free_names(term):
     """Return the ascending list of the free names of a term."""
     check_term(term)
-    found = []
-    waiting = [(term, ())]
-    while waiting:
-        node, bound = waiting.pop()
-        if node[0] == "var" and node[1] not in bound:
-            found.append(node[1])
-        for step, inner in enumerate(inner_terms(node)):
-            waiting.append((inner, bound_within(node, step, bound)))
-    return sorted(set(found))
+    return sorted(set(free_uses(term)))
