@@ -1,13 +1,18 @@
 """Terms and other values that several tests use."""
 
-from vasttypes.errors import InvalidPath, InvalidTerm, LimitExceeded, VastError
+from vasttypes.errors import (InvalidBound, InvalidName, InvalidPath, InvalidTerm, InvalidText, InvalidTree,
+                              LimitExceeded, NoType, VastError)
 
 X = ("var", "x")
 Y = ("var", "y")
 Z = ("var", "z")
 IDENTITY = ("fun", "x", X)
 
-FIELDS = {InvalidTerm: "path", InvalidPath: "path", LimitExceeded: "limit"}
+INT, BOOL = ("int",), ("bool",)
+V0, V1, V2 = ("var", 0), ("var", 1), ("var", 2)
+
+FIELDS = {InvalidTerm: "path", InvalidPath: "path", InvalidName: "name", InvalidText: "word", InvalidTree: "path",
+          InvalidBound: "argument", NoType: "path", LimitExceeded: "limit"}
 
 
 def fault(function, *arguments, **named):
@@ -121,3 +126,82 @@ def no_nodes():
             ("VAR", "x"), (" var", "x"), ("lambda", "x", X), ("let ", "x", X, X), ("items", [X, X]), (b"var", "x"),
             ([], "x"), ({}, "x"), (set(), "x"), (["var"], "x"), (("var",), "x"), (X, X), (None, "x"), ("term", X),
             ("error", X), ("name", "x")] + other_values()
+
+
+def random_term(source, levels, names=("f", "x", "y", "inn", "fund", "z")):
+    """Return a term that is at most so deep, chosen by a random source."""
+    def inner():
+        return random_term(source, levels - 1, names)
+    name = source.choice(names)
+    kind = source.choice(["var", "int", "bool"] if levels < 2 else
+                         ["var", "int", "bool", "fun", "app", "app", "let", "rec", "if", "tuple", "part", "record",
+                          "field", "with"])
+    if kind == "tuple":
+        return (kind, [inner() for _ in range(source.randint(2, 6))])
+    if kind == "record":
+        return (kind, [(label, inner()) for label in sorted(source.sample(names, source.randint(0, 3)))])
+    if kind == "rec":
+        return (kind, name, ("fun", source.choice(names), inner()) if levels > 2 else IDENTITY, inner())
+    size = source.randint(2, 6)
+    return {"var": lambda: (kind, name), "int": lambda: (kind, source.randint(-12, 12)),
+            "bool": lambda: (kind, source.random() < 0.5), "fun": lambda: (kind, name, inner()),
+            "app": lambda: (kind, inner(), inner()), "let": lambda: (kind, name, inner(), inner()),
+            "if": lambda: (kind, inner(), inner(), inner()),
+            "part": lambda: (kind, source.randrange(size), size, inner()),
+            "field": lambda: (kind, inner(), name), "with": lambda: (kind, inner(), name, inner())}[kind]()
+
+
+# The names of the records with each tail of a random tree.
+LABELS = {None: ("a", "b", "xyz"), 4: ("a",), 5: ("a", "b"), 6: ()}
+
+
+def random_tree(source, levels, variables=4):
+    """Return a tree that is at most so deep, with marks that are not numbered anew, chosen by a random source."""
+    def inner():
+        return random_tree(source, levels - 1, variables)
+    kind = source.choice(["var", "var", "int", "bool"] if levels < 2 else
+                         ["var", "int", "bool", "fun", "fun", "fun", "tuple", "tuple", "record", "record"])
+    if kind == "var":
+        return (kind, source.randrange(variables))
+    if kind == "fun":
+        return (kind, inner(), inner())
+    if kind == "tuple":
+        return (kind, [inner() for _ in range(source.choice([2, 2, 3, 6]))])
+    if kind == "record":
+        tail = source.choice([None, None, 4, 5, 6])
+        labels = LABELS[tail] if tail is not None else sorted(source.sample(LABELS[None], source.randint(0, 3)))
+        return (kind, [(label, inner()) for label in labels], tail)
+    return (kind,)
+
+
+def trees_within(tree):
+    """Return the list of the trees directly within a tree."""
+    if tree[0] == "record":
+        return [inner for _, inner in tree[1]]
+    return tree[1] if tree[0] == "tuple" else list(tree[1:]) if tree[0] == "fun" else []
+
+
+def parts_of_tree(tree, path=()):
+    """Return the list of tuples (path, tree) for all nodes of a tree, in the order in which they begin."""
+    found = [(path, tree)]
+    for step, inner in enumerate(trees_within(tree)):
+        found.extend(parts_of_tree(inner, path + (step,)))
+    return found
+
+
+def tree_under(count, value):
+    """Return a value with so many functions around it."""
+    return nested(count, lambda inner: ("fun", INT, inner), value)
+
+
+def sized_tree(count):
+    """Return a tree with just so many nodes, two or more of them, that is not deep."""
+    if count <= 2:
+        return INT if count == 1 else ("record", [("x", BOOL)], None)
+    left = (count - 1) // 2
+    return ("fun", sized_tree(left), sized_tree(count - 1 - left))
+
+
+def many_names(count):
+    """Return an ascending list of many names."""
+    return [chr(97 + k // 26) + chr(97 + k % 26) for k in range(count)]

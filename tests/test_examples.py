@@ -1,29 +1,46 @@
-"""The examples of the document, and those of the README."""
+"""The examples of the document, as they stand there in examples.txt, and those of the README."""
 
 import doctest
 import os
+import re
 import unittest
 
-from vasttypes.errors import InvalidTerm
-from vasttypes.terms import check_term, depth, free_names, node_count, paths, term_at
+from vasttypes import errors
 
-README = os.path.join(os.path.dirname(os.path.abspath(__file__)), os.pardir, "README.md")
+HERE = os.path.dirname(os.path.abspath(__file__))
+README = os.path.join(HERE, os.pardir, "README.md")
+
+
+def examples():
+    """Return the list of tuples (name, lines, expected) of the examples."""
+    with open(os.path.join(HERE, "examples.txt"), encoding="ascii") as file:
+        blocks = re.split(r"\n(?=e\d+:\n)", file.read())
+    found = []
+    for block in blocks:
+        name, rest = block.split(":\n", 1)
+        lines = [line.strip() for line in rest.splitlines() if line.strip()]
+        found.append((name, [line.removeprefix(">>> ") for line in lines[:-1]], lines[-1]))
+    return found
+
+
+def outcome(lines):
+    """Return what the last line of an example gives, as the document writes it."""
+    space = {}
+    try:
+        for line in lines[:-1]:
+            exec(line, space)
+        return repr(eval(lines[-1], space))
+    except errors.VastError as error:
+        fields = ", ".join(f"{name}={value!r}" for name, value in vars(error).items())
+        return f"raises {type(error).__name__}({fields})"
 
 
 class Document(unittest.TestCase):
-    def test_e01(self):
-        double = ('let', 'f', ('fun', 'x', ('tuple', [('var', 'x'), ('var', 'x')])), ('app', ('var', 'f'), ('int', 1)))
-        self.assertEqual([node_count(double), depth(double), term_at(double, (0, 0, 1))], [8, 4, ('var', 'x')])
-
-    def test_e02(self):
-        with self.assertRaises(InvalidTerm) as caught:
-            check_term(('app', ('var', 'f'), ('int', True)))
-        self.assertEqual(caught.exception.path, (1,))
-
-    def test_e03(self):
-        term = ('let', 'x', ('var', 'x'), ('fun', 'y', ('app', ('var', 'x'), ('var', 'z'))))
-        self.assertEqual([free_names(term), paths(term)],
-                         [['x', 'z'], [(), (0,), (1,), (1, 0), (1, 0, 0), (1, 0, 1)]])
+    def test_examples(self):
+        self.assertGreater(len(examples()), 20)
+        for name, lines, expected in examples():
+            with self.subTest(name):
+                self.assertEqual(outcome(lines), expected)
 
 
 class Readme(unittest.TestCase):

@@ -1,0 +1,59 @@
+"""Rows: the nodes of graphs of types.
+
+A row is a tuple (word, labels, inner, mark): the first word of the tree, the names of the fields
+of a record, the nodes of the types directly within it, and what tells a variable or tail from
+others, None if there is none. In the list of the rows of a type the nodes are the numbers of rows,
+each row stands once, behind those within it, in the order in which the parts first end in the text,
+and the marks are numbered in the order of the text. So two types are equal if their rows are.
+"""
+
+
+class Weaver:
+    """What is needed while the rows of a type are made of the nodes of a graph."""
+
+    def __init__(self):
+        self.rows = []
+        self.nodes = []
+        self.marks = {}
+        self.numbers = {}
+        self.done = {}
+
+    def number_of_mark(self, mark):
+        """Return the number of a mark, which is the next one if the mark is new."""
+        return None if mark is None else self.marks.setdefault(mark, len(self.marks))
+
+    def finish(self, node, shape):
+        """Make the row of a node whose inner nodes have their rows, unless there is such a row already."""
+        word, labels, inner, mark = shape
+        row = (word, labels, tuple([self.done[child] for child in inner]), self.number_of_mark(mark))
+        if row not in self.numbers:
+            self.numbers[row] = len(self.rows)
+            self.rows.append(row)
+            self.nodes.append(node)
+        self.done[node] = self.numbers[row]
+
+
+def woven(root, look):
+    """Return a Weaver with the rows of the type of a node, None if the node is within itself.
+
+    look(node) returns the word, labels, inner nodes and mark of a node.
+    """
+    weaver = Weaver()
+    entered = {}
+    waiting = [root]
+    while waiting:
+        node = waiting[-1]
+        if node in weaver.done:
+            waiting.pop()
+            continue
+        shape = look(node)
+        missing = [child for child in shape[2] if child not in weaver.done]
+        if not missing:
+            weaver.finish(node, shape)
+        elif node in entered:
+            return None
+        else:
+            # What is above it in the list is finished before the node comes again, unless the node is within it.
+            entered[node] = True
+            waiting.extend(missing[::-1])
+    return weaver
