@@ -1,7 +1,12 @@
 """Terms and other values that several tests use."""
 
+import re
+
 from vasttypes.errors import (InvalidBound, InvalidName, InvalidPath, InvalidTerm, InvalidText, InvalidTree,
                               LimitExceeded, NoType, VastError)
+from vasttypes.graphs import vast
+from vasttypes.inference import infer_in
+from vasttypes.treetexts import read_tree, tree_text
 
 X = ("var", "x")
 Y = ("var", "y")
@@ -205,3 +210,47 @@ def sized_tree(count):
 def many_names(count):
     """Return an ascending list of many names."""
     return [chr(97 + k // 26) + chr(97 + k % 26) for k in range(count)]
+
+
+def random_program(source, levels, scope=()):
+    """Return a closed term with short names, of which a good part has a type, chosen by a random source."""
+    def inner(*more):
+        return random_program(source, levels - 1, (*scope, *more))
+    leaves = ["var"] * 6 + ["int", "bool"] if scope else ["int", "bool"]
+    kind = source.choice(leaves if levels < 2 else
+                         leaves[:3] + ["fun", "fun", "app", "app", "app", "let", "let", "rec", "if", "tuple", "tuple",
+                                       "part", "record", "field", "with"])
+    name, label = source.choice("abcdef"), source.choice("xy")
+    if kind == "rec":
+        taken = source.choice("abcdef")
+        body = random_program(source, max(levels - 2, 1), (*scope, name, taken))
+        return (kind, name, ("fun", taken, body), inner(name, name))
+    return {"var": lambda: (kind, source.choice(scope)), "int": lambda: (kind, 1), "bool": lambda: (kind, True),
+            "fun": lambda: (kind, name, inner(name)), "app": lambda: (kind, inner(), inner()),
+            "let": lambda: (kind, name, inner(), inner(name, name)),
+            "if": lambda: (kind, ("bool", True) if source.random() < 0.6 else inner(), inner(), inner()),
+            "tuple": lambda: (kind, [inner() for _ in range(source.choice([2, 2, 3]))]),
+            "part": lambda: (kind, source.randrange(2), 2, inner()),
+            "record": lambda: (kind, [(held, inner()) for held in source.choice(["", "x", "y", "xy"])]),
+            "field": lambda: (kind, inner(), label), "with": lambda: (kind, inner(), label, inner())}[kind]()
+
+
+def of(text):
+    """Return the Vast with a text, in which the names of variables and tails can be in any order."""
+    names = list(dict.fromkeys(re.findall("'[a-z]+", text)))
+    return vast(read_tree(re.sub("'[a-z]+", lambda found: "'" + chr(97 + names.index(found[0])), text)))
+
+
+def text_of(big):
+    """Return the text of a Vast that is small or None."""
+    return None if big is None else tree_text(big.tree())
+
+
+def used_often(function, count, big):
+    """Return the type that results if functions of a type are used so often, the first one with a type."""
+    while count > 0:
+        many = min(count, 90)
+        term = nested(many, lambda inner: ("app", ("var", "f"), inner), ("var", "t"))
+        big = infer_in(term, {"f": function, "t": big})
+        count -= many
+    return big
