@@ -2,8 +2,8 @@
 
 from vasttypes.errors import InvalidBound, InvalidPath, LimitExceeded
 from vasttypes.rows import woven
-from vasttypes.terms import LEAST_ITEMS, MOST_ITEMS, are_ascending, is_name
-from vasttypes.trees import MOST_DEPTH, MOST_FIELDS, MOST_NODES, check_tree, inner_trees, labels_of
+from vasttypes.terms import are_ascending, is_name
+from vasttypes.trees import MOST_DEPTH, MOST_NODES, check_tree, inner_trees, labels_of
 from vasttypes.wholes import is_integer_within
 
 MOST_PARTS = 1000
@@ -15,8 +15,8 @@ INNER_TOTALS = {
     "int": (0, 0),
     "bool": (0, 0),
     "fun": (2, 2),
-    "tuple": (LEAST_ITEMS, MOST_ITEMS),
-    "record": (0, MOST_FIELDS),
+    "tuple": (2, 6),
+    "record": (0, 400),
 }
 
 

@@ -46,7 +46,7 @@ class Scheme:
                 made.append(self.web.variable())
             else:
                 inside = tuple([made[child] for child in inner])
-                made.append(self.web.add((word, labels, inside, self.tail_of(mark, tails))))
+                made.append(self.web.node((word, labels, inside, self.tail_of(mark, tails))))
         return made[-1]
 
 
@@ -121,7 +121,7 @@ class Course:
         """Take the type of a definition, when it ends."""
         if visit.entry is not None:
             self.equate(visit.path + (0,), visit.entry, found)
-        weaver = woven(self.web.find(found), self.web.look)
+        weaver = woven(self.web.leader(found), self.web.look)
         if weaver is None or (len(weaver.rows) > MOST_PARTS and self.web.has_circle()):
             raise NoType(visit.path + (0,))
         self.definitions.append((visit.path, limited(weaver.rows)))
@@ -149,7 +149,7 @@ class Course:
 
 def rule_of_constant(course, visit):
     """Return the type of an int or bool; the next functions do so for the other kinds."""
-    return course.web.add((visit.term[0], (), (), None))
+    return course.web.node((visit.term[0], (), (), None))
 
 
 def rule_of_var(course, visit):
@@ -176,33 +176,33 @@ def rule_of_definition(course, visit):
 
 def rule_of_if(course, visit):
     """Return the type of an if."""
-    course.equate(visit.path, visit.found[0], course.web.add(("bool", (), (), None)))
+    course.equate(visit.path, visit.found[0], course.web.node(("bool", (), (), None)))
     course.equate(visit.path, visit.found[1], visit.found[2])
     return visit.found[1]
 
 
 def rule_of_tuple(course, visit):
     """Return the type of a tuple."""
-    return course.web.add(("tuple", (), tuple(visit.found), None))
+    return course.web.node(("tuple", (), tuple(visit.found), None))
 
 
 def rule_of_part(course, visit):
     """Return the type of an item of a tuple."""
     inner = [course.web.variable() for _ in range(visit.term[2])]
-    course.equate(visit.path, visit.found[0], course.web.add(("tuple", (), tuple(inner), None)))
+    course.equate(visit.path, visit.found[0], course.web.node(("tuple", (), tuple(inner), None)))
     return inner[visit.term[1]]
 
 
 def rule_of_record(course, visit):
     """Return the type of a record."""
     labels = [name for name, _ in visit.term[1]]
-    return course.web.add(("record", tuple(labels), tuple(visit.found), None))
+    return course.web.node(("record", tuple(labels), tuple(visit.found), None))
 
 
 def rule_of_field(course, visit):
     """Return the type of a field of a record."""
     held = course.web.variable()
-    wanted = course.web.add(("record", (visit.term[2],), (held,), course.web.tail()))
+    wanted = course.web.node(("record", (visit.term[2],), (held,), course.web.tail()))
     course.equate(visit.path, visit.found[0], wanted)
     return held
 
@@ -211,9 +211,9 @@ def rule_of_with(course, visit):
     """Return the type of a record with another field in the place of one that it has."""
     labels = (visit.term[2],)
     tail = course.web.tail()
-    wanted = course.web.add(("record", labels, (course.web.variable(),), tail))
+    wanted = course.web.node(("record", labels, (course.web.variable(),), tail))
     course.equate(visit.path, visit.found[0], wanted)
-    return course.web.add(("record", labels, (visit.found[1],), tail))
+    return course.web.node(("record", labels, (visit.found[1],), tail))
 
 
 RULES = {

@@ -15,32 +15,32 @@ class Web:
     """
 
     def __init__(self):
-        self.rows = []
+        self.shapes = []
         self.leads = []
         self.tails = []
         # The nodes to which others have been made equal since the web was known to have no circle.
         self.touched = []
 
-    def add(self, row):
+    def node(self, row):
         """Return a new node with a row."""
-        self.rows.append(row)
+        self.shapes.append(row)
         self.leads.append(len(self.leads))
         return len(self.leads) - 1
 
     def variable(self):
         """Return a new variable."""
-        return self.add(VARIABLE)
+        return self.node(VARIABLE)
 
     def function(self, taken, result):
         """Return a new node for the functions from one node to another one."""
-        return self.add(("fun", (), (taken, result), None))
+        return self.node(("fun", (), (taken, result), None))
 
     def tail(self):
         """Return a new tail."""
         self.tails.append(None)
         return len(self.tails) - 1
 
-    def find(self, node):
+    def leader(self, node):
         """Return the node to which a node leads in the end."""
         leads = self.leads
         while leads[node] != node:
@@ -63,13 +63,13 @@ class Web:
 
     def row(self, node):
         """Return the row of a node, for a record with all fields that it has by now."""
-        node = self.find(node)
-        word, labels, inner, tail = self.rows[node]
+        node = self.leader(node)
+        word, labels, inner, tail = self.shapes[node]
         if tail is not None and self.tails[tail] is not None:
             more, last = self.behind(tail)
             fields = sorted(list(zip(labels, inner)) + more)
-            self.rows[node] = (word, tuple([name for name, _ in fields]), tuple([held for _, held in fields]), last)
-        return self.rows[node]
+            self.shapes[node] = (word, tuple([name for name, _ in fields]), tuple([held for _, held in fields]), last)
+        return self.shapes[node]
 
     def look(self, node):
         """Return the row of a node with other nodes as they are found, and a mark for variables, too."""
@@ -77,7 +77,7 @@ class Web:
         if word == "var":
             return word, labels, inner, node
         # Tails are told from variables by being below 0.
-        return word, labels, [self.find(child) for child in inner], None if tail is None else -1 - tail
+        return word, labels, [self.leader(child) for child in inner], None if tail is None else -1 - tail
 
     def planted(self, rows):
         """Return the list of new nodes for the rows of a type."""
@@ -89,7 +89,7 @@ class Web:
                 if mark not in tails:
                     tails[mark] = self.tail()
                 tail = tails[mark]
-            nodes.append(self.add((word, labels, tuple([nodes[child] for child in inner]), tail)))
+            nodes.append(self.node((word, labels, tuple([nodes[child] for child in inner]), tail)))
         return nodes
 
     def joins(self, first, second):
@@ -97,13 +97,13 @@ class Web:
         pairs = [(first, second)]
         while pairs:
             one, other = pairs.pop()
-            one = self.find(one)
-            other = self.find(other)
+            one = self.leader(one)
+            other = self.leader(other)
             if one == other:
                 continue
-            if self.rows[one][0] == "var":
+            if self.shapes[one][0] == "var":
                 one, other = other, one
-            if self.rows[other][0] != "var" and not self.fit(one, other, pairs):
+            if self.shapes[other][0] != "var" and not self.fit(one, other, pairs):
                 return False
             self.leads[other] = one
             self.touched.append(one)
@@ -149,9 +149,9 @@ class Web:
             self.tails[other] = (left, last)
         return True
 
-    def inner(self, node):
+    def inner_nodes(self, node):
         """Return the list of the nodes directly within a node, as they are found."""
-        return [self.find(child) for child in self.row(node)[2]]
+        return [self.leader(child) for child in self.row(node)[2]]
 
     def has_circle(self):
         """Tell whether a node is within itself."""
@@ -159,8 +159,8 @@ class Web:
         done = {}
         entered = {}
         while waiting:
-            node = self.find(waiting[-1])
-            missing = [] if node in done else [child for child in self.inner(node) if child not in done]
+            node = self.leader(waiting[-1])
+            missing = [] if node in done else [child for child in self.inner_nodes(node) if child not in done]
             if not missing:
                 done[node] = True
                 waiting.pop()
@@ -177,7 +177,7 @@ class Web:
         """Return the dict of the marks (see look) of the variables and tails within nodes."""
         marks = {}
         seen = {}
-        waiting = [self.find(node) for node in nodes]
+        waiting = [self.leader(node) for node in nodes]
         while waiting:
             node = waiting.pop()
             if node in seen:
@@ -191,4 +191,4 @@ class Web:
 
     def vast_of(self, node):
         """Return the Vast of a node, None if a node is within itself there."""
-        return settled(self.find(node), self.look)
+        return settled(self.leader(node), self.look)
