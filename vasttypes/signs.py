@@ -46,51 +46,85 @@ def pieces_of(rows, number):
     return pieces
 
 
-def row_lengths(big):
-    """Return the list of the lengths of the texts of all rows, which is worked out once for each Vast."""
-    if "lengths" not in big.notes:
-        lengths = []
-        for number, row in enumerate(big.rows):
-            pieces = pieces_of(big.rows, number)
-            lengths.append(sum([lengths[row[2][step]] if text is None else len(text) for text, step in pieces]))
-        big.notes["lengths"] = lengths
-    return big.notes["lengths"]
+def placed_pieces(rows, number, lengths):
+    """Return the pieces of a row as tuples (text, step, child, first, after), given the lengths of earlier rows.
 
-
-def text_length(big):
-    """Return how many signs the text has."""
-    return row_lengths(big)[-1]
-
-
-def placed_pieces(big, number, first):
-    """Return the list of tuples (text, step, first, after) of the pieces of a row whose text begins at a sign."""
-    lengths = row_lengths(big)
-    inner = big.rows[number][2]
+    The child is the number of the row for the text of an inner type, first and after are where the piece stands
+    in the text of the row.
+    """
+    inner = rows[number][2]
     placed = []
-    for text, step in pieces_of(big.rows, number):
-        after = first + (lengths[inner[step]] if text is None else len(text))
-        placed.append((text, step, first, after))
+    first = 0
+    for text, step in pieces_of(rows, number):
+        child = inner[step] if text is None else None
+        after = first + (lengths[child] if text is None else len(text))
+        placed.append((text, step, child, first, after))
         first = after
     return placed
 
 
+def layout(big):
+    """Return the list of the placed pieces of all rows, which are worked out once for each Vast."""
+    if "layout" not in big.notes:
+        found = []
+        lengths = []
+        for number in range(len(big.rows)):
+            found.append(placed_pieces(big.rows, number, lengths))
+            lengths.append(found[-1][-1][4])
+        big.notes["layout"] = found
+    return big.notes["layout"]
+
+
+def text_length(big):
+    """Return how many signs the text has."""
+    return layout(big)[-1][-1][4]
+
+
+def place_over(pieces, k):
+    """Return the number of the piece with sign number k of a row."""
+    low = 0
+    high = len(pieces) - 1
+    while low < high:
+        middle = (low + high) // 2
+        if k < pieces[middle][4]:
+            high = middle
+        else:
+            low = middle + 1
+    return low
+
+
+def descended(big, k):
+    """Return the list of the steps to the innermost part whose span has sign number k, and this sign."""
+    rows = layout(big)
+    pieces = rows[-1]
+    path = []
+    while True:
+        text, step, child, first, _ = pieces[place_over(pieces, k)]
+        k = k - first
+        if step is not None:
+            path.append(step)
+        if text is not None:
+            return path, text[k]
+        pieces = rows[child]
+
+
 def signs_from(big, first, many):
     """Return the signs from number first on, at most so many."""
+    rows = layout(big)
     texts = []
     left = many
-    waiting = [(None, len(big.rows) - 1, 0, text_length(big))]
+    # What is to be written, the next piece on top; of the one on top the first signs are left out.
+    waiting = [(None, None, len(rows) - 1, 0, text_length(big))] if first < text_length(big) else []
     while waiting and left > 0:
-        text, number, begin, after = waiting.pop()
-        if after <= first:
-            continue
+        text, _, child, _, _ = waiting.pop()
         if text is None:
-            inner = big.rows[number][2]
-            for held, step, start, end in placed_pieces(big, number, begin)[::-1]:
-                waiting.append((held, inner[step] if held is None else 0, start, end))
+            place = place_over(rows[child], first)
+            waiting.extend(rows[child][place:][::-1])
+            first = first - rows[child][place][3]
             continue
-        start = max(first - begin, 0)
-        texts.append(text[start:start + left])
-        left -= len(texts[-1])
+        texts.append(text[first:first + left])
+        left = left - len(texts[-1])
+        first = 0
     return "".join(texts)
 
 
@@ -103,7 +137,8 @@ def check_sign(big, k):
 def sign_at(big, k):
     """Return sign number k of the text."""
     check_sign(big, k)
-    return signs_from(big, k, 1)
+    _, sign = descended(big, k)
+    return sign
 
 
 def window(big, first, many):
@@ -118,36 +153,22 @@ def window(big, first, many):
 def span(big, path):
     """Return the tuple of the number of the first sign of a part, and the number behind its last one."""
     row_at(big, path)
-    number = len(big.rows) - 1
+    rows = layout(big)
+    number = len(rows) - 1
     begin = 0
     around = (0, text_length(big))
     for wanted in path:
-        belonging = [piece for piece in placed_pieces(big, number, begin) if piece[1] == wanted]
-        around = (belonging[0][2], belonging[-1][3])
-        begin = [first for text, _, first, _ in belonging if text is None][0]
-        number = big.rows[number][2][wanted]
+        belonging = [piece for piece in rows[number] if piece[1] == wanted]
+        around = (begin + belonging[0][3], begin + belonging[-1][4])
+        # Of brackets and what is in them, this is the piece that is no text.
+        inside = belonging[len(belonging) // 2]
+        begin = begin + inside[3]
+        number = inside[2]
     return around
-
-
-def piece_over(big, number, begin, k):
-    """Return the tuple (text, step, first) of the piece with sign number k, of a row whose text begins at a sign."""
-    for text, step, first, after in placed_pieces(big, number, begin):
-        if k < after:
-            return text, step, first
-    return "", None, begin
 
 
 def path_over(big, k):
     """Return the longest path whose span has sign number k."""
     check_sign(big, k)
-    path = []
-    number = len(big.rows) - 1
-    text, step, begin = piece_over(big, number, 0, k)
-    while step is not None:
-        path.append(step)
-        number = big.rows[number][2][step]
-        # A bracket belongs to the part within it, but to nothing within this.
-        if text is not None:
-            break
-        text, step, begin = piece_over(big, number, begin, k)
+    path, _ = descended(big, k)
     return tuple(path)
