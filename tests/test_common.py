@@ -228,6 +228,17 @@ class Equated(unittest.TestCase):
         self.assertEqual(text_of(equated(of("{x: 'a | 'b} * {y: int | 'c}"), (((0,), (1,)),))),
                          "{x: 'a, y: int | 'b} * {x: 'a, y: int | 'b}")
 
+    def test_tails_that_become_something_again_and_again(self):
+        big = of("{| 'a} * {x: int | 'b} * {y: int | 'c} * {y: int, z: int | 'd} * {w: int | 'e} * {| 'a}")
+        pairs = [((0,), (1,)), ((1,), (2,)), ((2,), (3,)), ((3,), (4,))]
+        for many, text in ((0, "{| 'a}"), (1, "{x: int | 'a}"), (2, "{x: int, y: int | 'a}"),
+                           (3, "{x: int, y: int, z: int | 'a}"), (4, "{w: int, x: int, y: int, z: int | 'a}")):
+            self.assertEqual(text_of(becomes(big, pairs[:many], (5,))), text)
+            self.assertEqual(text_of(becomes(big, pairs[:many][::-1], (5,))), text)
+        whole = equated(big, pairs)
+        self.assertEqual(whole.node_total(), 3)
+        self.assertEqual(whole.variables(), [("tail", 6)])
+
     def test_paths_are_those_of_the_type_before(self):
         # By the first pair the record gets a field ahead of the one that the second pair means.
         big = of("{b: 'a | 'b} * {a: int | 'c} * bool")

@@ -386,6 +386,14 @@ class Limits(unittest.TestCase):
         right = ("fun", "y", ("if", ("bool", True), two, ("app", ("var", "g"), ONE)))
         self.assertEqual(fault(infer_in, ("rec", "g", right, ONE), library), (LimitExceeded, 1000))
 
+    def test_circles_before_the_only_definition(self):
+        pair = of("'a -> 'a * 'a")
+        library = {"f": pair, "x": used_often(pair, 598, towers(400))}
+        two = ("app", ("var", "f"), ("app", ("var", "f"), X))
+        circle = ("fun", "y", ("app", ("var", "y"), ("var", "y")))
+        self.assertEqual(fault(infer_in, ("tuple", [circle, ("let", "y", two, ONE)]), library), (NoType, (0, 0)))
+        self.assertEqual(fault(infer_in, ("tuple", [("let", "y", two, ONE), circle]), library), (LimitExceeded, 1000))
+
     def test_the_whole(self):
         pair = of("'a -> 'a * 'a")
         library = {"f": pair, "x": used_often(pair, 598, towers(400))}

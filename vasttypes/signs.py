@@ -114,7 +114,7 @@ def signs_from(big, first, many):
     texts = []
     left = many
     # What is to be written, the next piece on top; of the one on top the first signs are left out.
-    waiting = [(None, None, len(rows) - 1, 0, text_length(big))] if first < text_length(big) else []
+    waiting = [(None, None, len(rows) - 1, 0, text_length(big))]
     while waiting and left > 0:
         text, _, child, _, _ = waiting.pop()
         if text is None:

@@ -131,7 +131,7 @@ class TreeReader:
 
     def fail_behind(self, tokens):
         """Raise the error of the first sign with which none of the tokens can go on."""
-        raise InvalidText(self.at + max([agreement(self.text, self.at, token) for token in tokens], default=0))
+        raise InvalidText(self.at + max([agreement(self.text, self.at, token) for token in tokens]))
 
     def take(self, tokens):
         """Take the token that stands here, and return it."""
