@@ -1,7 +1,7 @@
 """Types as graphs."""
 
 from vasttypes.errors import InvalidBound, InvalidPath, LimitExceeded
-from vasttypes.rows import woven
+from vasttypes.rows import picked, woven
 from vasttypes.terms import are_ascending, is_name
 from vasttypes.trees import MOST_DEPTH, MOST_NODES, check_tree, inner_trees, labels_of
 from vasttypes.wholes import is_integer_within
@@ -76,11 +76,11 @@ class Vast:
 
     def parts(self):
         """Return the list of the types directly within the type, each as a type of its own."""
-        return [part_of(self.rows, child) for child in self.rows[-1][2]]
+        return [own_part(self, child) for child in self.rows[-1][2]]
 
     def part(self, path):
         """Return the part with a path as a type of its own."""
-        return part_of(self.rows, row_at(self, path))
+        return own_part(self, row_at(self, path))
 
 
 def settled(root, look):
@@ -97,8 +97,13 @@ def limited(rows):
 
 
 def part_of(rows, number):
-    """Return the Vast of the row with a number."""
+    """Return the Vast of the row with a number, among rows in any order of which some may be equal."""
     return settled(number, lambda node: rows[node])
+
+
+def own_part(big, number):
+    """Return the Vast of the row of a type with a number."""
+    return Vast(tuple(picked(big.rows, number)))
 
 
 def row_at(big, path):

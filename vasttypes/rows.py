@@ -57,3 +57,31 @@ def woven(root, look):
             entered[node] = True
             waiting.extend(missing[::-1])
     return weaver
+
+
+def rows_within(rows, number):
+    """Return the dict of a row of a type and those within it, in the order in which they first end in its text."""
+    done = {}
+    waiting = [number]
+    while waiting:
+        top = waiting[-1]
+        missing = [child for child in rows[top][2] if child not in done]
+        if missing:
+            waiting.extend(missing[::-1])
+        else:
+            waiting.pop()
+            done.setdefault(top, len(done))
+    return done
+
+
+def picked(rows, number):
+    """Return the list of the rows of the type that one of the rows of a type has."""
+    places = rows_within(rows, number)
+    marks = {None: None}
+    found = []
+    for old in places:
+        word, labels, inner, mark = rows[old]
+        # The entry for no mark is there ahead of the others.
+        own = marks.setdefault(mark, len(marks) - 1)
+        found.append((word, labels, tuple([places[child] for child in inner]), own))
+    return found
