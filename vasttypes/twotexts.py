@@ -3,7 +3,8 @@
 from vasttypes.errors import InvalidBound
 from vasttypes.graphs import Vast, row_at
 from vasttypes.signs import layout, sign_at, text_length
-from vasttypes.treetexts import agreement, needs_brackets
+from vasttypes.treetexts import needs_brackets
+from vasttypes.typereaders import agreement
 
 
 def common_numbers(bigs):
