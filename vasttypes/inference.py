@@ -22,13 +22,13 @@ def clash(course, term, many):
     return None
 
 
-def are_kept(term, library, many):
+def are_kept(term, library, unknowns, many):
     """Tell whether all rules can be kept up to the end of so many nodes."""
-    course = Course(library)
+    course = Course(library, unknowns)
     return clash(course, term, many) is None and not course.web.has_circle()
 
 
-def broken_path(term, library):
+def broken_path(term, library, unknowns):
     """Return the path of the first node, in the order in which they end, up to which the rules cannot all be kept.
 
     What cannot be kept up to a node cannot be kept up to a later one, so the place is found by trying halves.
@@ -39,11 +39,23 @@ def broken_path(term, library):
     broken = len(ends)
     while broken - kept > 1:
         middle = (kept + broken) // 2
-        if are_kept(term, library, middle):
+        if are_kept(term, library, unknowns, middle):
             kept = middle
         else:
             broken = middle
     return ends[broken - 1]
+
+
+def kept_course(term, library, unknowns):
+    """Return the Course of a term that has been checked, and whose free names are known."""
+    course = Course(library, unknowns)
+    path = clash(course, term, node_count(term))
+    if course.web.has_circle():
+        # It can be there since long before the types clashed.
+        path = broken_path(term, library, unknowns)
+    if path is not None:
+        raise NoType(path)
+    return course
 
 
 def run_in(term, library):
@@ -51,13 +63,7 @@ def run_in(term, library):
     for name in free_uses(term):
         if name not in library:
             raise InvalidName(name)
-    course = Course(library)
-    path = clash(course, term, node_count(term))
-    if course.web.has_circle():
-        # It can be there since long before the types clashed.
-        path = broken_path(term, library)
-    if path is not None:
-        raise NoType(path)
+    course = kept_course(term, library, ())
     return course, course.web.vast_of(course.types_found[()])
 
 

@@ -35,7 +35,10 @@ class Scheme:
         return tails[mark]
 
     def instance(self):
-        """Return a node for an instance; what has nothing general within it is taken as it is."""
+        """Return the nodes of an instance for all rows, and its tails by marks.
+
+        What has nothing general within it is taken as it is.
+        """
         made = []
         tails = {}
         for row, node, is_general in zip(self.rows, self.nodes, self.general):
@@ -47,7 +50,15 @@ class Scheme:
             else:
                 inside = tuple([made[child] for child in inner])
                 made.append(self.web.node((word, labels, inside, self.tail_of(mark, tails))))
-        return made[-1]
+        return made, tails
+
+    def replaced(self, made, tails):
+        """Return the dict of what an instance has in the place of each general mark of the web."""
+        found = {self.marks[mark]: -1 - tail for mark, tail in tails.items()}
+        for (word, _, _, mark), node, is_general in zip(self.rows, made, self.general):
+            if word == "var" and is_general:
+                found[self.marks[mark]] = node
+        return found
 
 
 class Visit:
@@ -67,12 +78,18 @@ class Visit:
 
 
 class Course:
-    """The course of finding the types of all nodes of a term, in the order in which they end."""
+    """The course of finding the types of all nodes of a term, in the order in which they end.
 
-    def __init__(self, library):
+    The free names of the term are names of a library, or unknowns: names of which each has one type at all its places.
+    The instances are those at the uses of names, by their paths: the Scheme, and what it returned.
+    """
+
+    def __init__(self, library, unknowns=()):
         self.web = Web()
         self.library = library
+        self.unknowns = {name: self.web.variable() for name in unknowns}
         self.schemes = {}
+        self.instances = {}
         self.types_found = {}
         self.definitions = []
 
@@ -98,7 +115,7 @@ class Course:
         Raise NoType if types clash. Whether types are within themselves is left to the caller, except where this
         would hinder the run.
         """
-        visits = [self.begin(term, (), {}, ())]
+        visits = [self.begin(term, (), self.unknowns, tuple(list(self.unknowns.values())))]
         while len(self.types_found) < many:
             visit = visits[-1]
             if len(visit.found) < len(visit.inner):
@@ -128,10 +145,14 @@ class Course:
         fixed = self.web.marks_within(visit.around)
         visit.entry = Scheme(self.web, weaver.rows, weaver.nodes, list(weaver.marks), fixed)
 
-    def use(self, name, names):
-        """Return the node of the type of a use of a name."""
+    def use(self, path, name, names):
+        """Return the node of the type of the use of a name with a path."""
         meant = names[name] if name in names else self.scheme_of(name)
-        return meant.instance() if isinstance(meant, Scheme) else meant
+        if not isinstance(meant, Scheme):
+            return meant
+        made, tails = meant.instance()
+        self.instances[path] = (meant, made, tails)
+        return made[-1]
 
     def scheme_of(self, name):
         """Return the Scheme of a name of the library."""
@@ -154,7 +175,7 @@ def rule_of_constant(course, visit):
 
 def rule_of_var(course, visit):
     """Return the type of a use of a name."""
-    return course.use(visit.term[1], visit.names)
+    return course.use(visit.path, visit.term[1], visit.names)
 
 
 def rule_of_fun(course, visit):
