@@ -1,6 +1,6 @@
 """The types of terms."""
 
-from vasttypes.errors import InvalidBound, InvalidName, NoType
+from vasttypes.errors import InvalidBound, InvalidName, LimitExceeded, NoType
 from vasttypes.graphs import Vast
 from vasttypes.rules import Course
 from vasttypes.terms import MOST_FIELDS, check_term, free_uses, is_name, node_at, node_count, paths
@@ -65,6 +65,18 @@ def run_in(term, library):
             raise InvalidName(name)
     course = kept_course(term, library, ())
     return course, course.web.vast_of(course.types_found[()])
+
+
+def type_if_any(term, library):
+    """Return what infer_in returns for a term that has been checked, and None where it raises an error."""
+    course = Course(library)
+    try:
+        course.run(term, node_count(term))
+        if course.web.has_circle():
+            return None
+        return course.web.vast_of(course.types_found[()])
+    except (NoType, LimitExceeded):
+        return None
 
 
 def infer(term):

@@ -27,6 +27,15 @@ class Web:
         self.leads.append(len(self.leads))
         return len(self.leads) - 1
 
+    def forked(self):
+        """Return a web with the same nodes and tails, which is changed apart from this one."""
+        web = Web()
+        web.shapes = list(self.shapes)
+        web.leads = list(self.leads)
+        web.tails = list(self.tails)
+        web.touched = list(self.touched)
+        return web
+
     def variable(self):
         """Return a new variable."""
         return self.node(VARIABLE)
@@ -91,6 +100,11 @@ class Web:
                 tail = tails[mark]
             nodes.append(self.node((word, labels, tuple([nodes[child] for child in inner]), tail)))
         return nodes
+
+    def use(self, function, taken):
+        """Use a function with a node, and return the node of the result, None if this is impossible."""
+        result = self.variable()
+        return result if self.joins(function, self.function(taken, result)) else None
 
     def joins(self, first, second):
         """Make two nodes equal, and tell whether this is possible, apart from circles."""
