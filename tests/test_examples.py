@@ -37,7 +37,7 @@ def outcome(lines):
 
 class Document(unittest.TestCase):
     def test_examples(self):
-        self.assertGreater(len(examples()), 20)
+        self.assertEqual(len(examples()), 105)
         for name, lines, expected in examples():
             with self.subTest(name):
                 self.assertEqual(outcome(lines), expected)
