@@ -299,6 +299,52 @@ class Equated(unittest.TestCase):
         self.assertEqual(fitting(deep, [((0,) * 998, (1,) * 998)] * 99 + [((), (0,))]), 99)
         self.assertEqual(becomes(deep, [], (1,) * 500).node_total(), 500)
 
+    def row(self, size):
+        """Return a row of definitions within one type, and the pairs of paths that make them equal."""
+        tree = INT
+        for k in range(size - 1, -1, -1):
+            tree = ("tuple", [("var", k + 1), ("tuple", [("var", k), ("var", k)]), tree])
+        return vast(tree), [((2,) * k + (0,), (2,) * k + (1,)) for k in range(size)]
+
+    def test_many_pairs_within_one_type(self):
+        for size in (1, 2, 10, 40, 60, 90):
+            big, pairs = self.row(size)
+            last = (2,) * (size - 1) + (0,)
+            whole = equated(big, pairs)
+            for order in (pairs, pairs[::-1], pairs[30:] + pairs[:30], random.Random(size).sample(pairs, size)):
+                self.assertEqual(becomes(big, order, last), towers(size))
+                self.assertEqual(equated(big, order), whole)
+                self.assertEqual(fitting(big, order), size)
+                self.assertEqual(becomes(big, order, (2,) * (size - 1) + (1, 0)), towers(size - 1))
+                circle = (last, (1, 0))
+                self.assertEqual(fitting(big, order + [circle]), size)
+                self.assertIsNone(equated(big, order + [circle]))
+                self.assertIsNone(becomes(big, [circle] + order, last))
+
+    def test_circles_among_many_pairs(self):
+        source = random.Random(41)
+        for _ in range(150):
+            size = source.randint(2, 12)
+            big, pairs = self.row(size)
+            pairs = source.sample(pairs, size)
+            for _ in range(source.randint(1, 3)):
+                one, other = source.randint(0, size - 1), source.randint(0, size - 1)
+                pairs.insert(source.randint(0, size), ((2,) * one + (0,), (2,) * other + (1, 0)))
+            results = [equated(big, pairs[:many]) is not None for many in range(len(pairs) + 1)]
+            self.assertEqual(fitting(big, pairs), results.count(True) - 1)
+            self.assertEqual(results, sorted(results, reverse=True))
+
+    def test_paths_one_after_the_other(self):
+        big = of("(int * 'a * (bool * 'b)) * (int * 'a * ('a * 'b)) * bool")
+        paths = [path for path, _ in parts_of_tree(big.tree())]
+        source = random.Random(42)
+        for _ in range(60):
+            pairs = [(source.choice(paths), source.choice(paths)) for _ in range(6)]
+            for at in range(6):
+                for wrong in [(7,), (1, True), (1, 2, False), (0, 1, 0), (1, 2, 1, 0), (True, 2), (1j * 0 + 1,), (1, 2, 2)]:
+                    for pair in ((wrong, pairs[at][1]), (pairs[at][0], wrong)):
+                        self.assertEqual(fault(fitting, big, pairs[:at] + [pair] + pairs[at + 1:]), (InvalidPath, wrong))
+
     def test_wrong_pairs(self):
         big = of(BIG)
         for pairs in [[((), ())] * 101, (((), ()),) * 101, [()], [((),)], [((), (), ())], [[(), ()]], [((), ()), None],

@@ -1,7 +1,7 @@
 """What types have in common, and what becomes of a type if parts of it become equal."""
 
 from vasttypes.errors import InvalidBound
-from vasttypes.graphs import Vast, row_at
+from vasttypes.graphs import Follower, Vast, row_at
 from vasttypes.webs import Web
 
 MOST_BIGS = 20
@@ -43,25 +43,55 @@ def row_pairs(big, pairs):
         raise InvalidBound("pairs")
     if not all([is_pair(pair) for pair in pairs]):
         raise InvalidBound("pairs")
-    return [(row_at(big, path), row_at(big, other)) for path, other in pairs]
+    follower = Follower(big)
+    return [(follower.row_at(path), follower.row_at(other)) for path, other in pairs]
 
 
 class Equating:
-    """A type in which parts have been made equal, as many pairs of them as can be."""
+    """A type in which parts have been made equal: the first so many pairs of rows, apart from circles.
+
+    The pairs that are left begin with one that cannot be made equal, if there are some.
+    """
 
     def __init__(self, big, numbers):
         self.web = Web()
         self.nodes = self.web.planted(big.rows)
         self.many = 0
         for one, other in numbers:
-            if not self.web.joins(self.nodes[one], self.nodes[other]) or self.web.has_circle():
+            if not self.web.joins(self.nodes[one], self.nodes[other]):
                 break
             self.many += 1
         self.is_done = self.many == len(numbers)
 
     def vast_at(self, number):
         """Return the Vast of what the row with a number has become, None if not all pairs could be made equal."""
-        return self.web.vast_of(self.nodes[number]) if self.is_done else None
+        if not self.is_done or self.web.has_circle():
+            return None
+        return self.web.vast_of(self.nodes[number])
+
+
+def has_result(big, numbers):
+    """Tell whether all pairs of rows can be made equal."""
+    equating = Equating(big, numbers)
+    return equating.is_done and not equating.web.has_circle()
+
+
+def most_fitting(big, numbers):
+    """Return the greatest number of pairs of rows, from the first one on, that can be made equal."""
+    equating = Equating(big, numbers)
+    if not equating.web.has_circle():
+        return equating.many
+    # With more pairs there is no result if there is none with fewer; mostly the last pair closes the circle.
+    fitting_many = 0
+    broken = equating.many
+    middle = broken - 1
+    while broken - fitting_many > 1:
+        if has_result(big, numbers[:middle]):
+            fitting_many = middle
+        else:
+            broken = middle
+        middle = (fitting_many + broken) // 2
+    return fitting_many
 
 
 def equated(big, pairs):
@@ -71,7 +101,7 @@ def equated(big, pairs):
 
 def fitting(big, pairs):
     """Return the greatest number of pairs, from the first one on, that alone have a result."""
-    return Equating(big, row_pairs(big, pairs)).many
+    return most_fitting(big, row_pairs(big, pairs))
 
 
 def becomes(big, pairs, path):

@@ -119,6 +119,38 @@ def row_at(big, path):
     return number
 
 
+class Follower:
+    """What follows paths of a type one after the other; it need not follow again what a path shares with the last one.
+
+    The trail is the list of the numbers of the rows along the last path, from the whole on.
+    """
+
+    def __init__(self, big):
+        self.rows = big.rows
+        self.path = ()
+        self.trail = [len(big.rows) - 1]
+
+    def row_at(self, path):
+        """Return the number of the row of the part with a path."""
+        # True is equal to 1, but no step.
+        if not isinstance(path, tuple) or [step for step in path if type(step) != int]:
+            raise InvalidPath(path)
+        # Mostly at most the last step of one of the paths is another one; otherwise at least half of what they share
+        # is found.
+        many = max(min(len(path), len(self.path)) - 1, 0)
+        while path[:many] != self.path[:many]:
+            many = many // 2
+        trail = self.trail[:many + 1]
+        for step in path[many:]:
+            inner = self.rows[trail[-1]][2]
+            if not 0 <= step < len(inner):
+                raise InvalidPath(path)
+            trail.append(inner[step])
+        self.path = path
+        self.trail = trail
+        return trail[-1]
+
+
 def uses_of(rows):
     """Return the list that tells for each row to how many nodes of the tree it belongs."""
     uses = [0] * len(rows)

@@ -18,19 +18,18 @@ class Weaver:
         self.numbers = {}
         self.done = {}
 
-    def number_of_mark(self, mark):
-        """Return the number of a mark, which is the next one if the mark is new."""
-        return None if mark is None else self.marks.setdefault(mark, len(self.marks))
-
     def finish(self, node, shape):
         """Make the row of a node whose inner nodes have their rows, unless there is such a row already."""
         word, labels, inner, mark = shape
-        row = (word, labels, tuple([self.done[child] for child in inner]), self.number_of_mark(mark))
-        if row not in self.numbers:
-            self.numbers[row] = len(self.rows)
+        done = self.done
+        if mark is not None:
+            mark = self.marks.setdefault(mark, len(self.marks))
+        row = (word, labels, tuple([done[child] for child in inner]), mark)
+        number = self.numbers.setdefault(row, len(self.rows))
+        if number == len(self.rows):
             self.rows.append(row)
             self.nodes.append(node)
-        self.done[node] = self.numbers[row]
+        done[node] = number
 
 
 def woven(root, look):
@@ -39,22 +38,24 @@ def woven(root, look):
     look(node) returns the word, labels, inner nodes and mark of a node.
     """
     weaver = Weaver()
+    done = weaver.done
     entered = {}
     waiting = [root]
     while waiting:
         node = waiting[-1]
-        if node in weaver.done:
+        if node in done:
             waiting.pop()
             continue
-        shape = look(node)
-        missing = [child for child in shape[2] if child not in weaver.done]
+        shape = entered[node] if node in entered else look(node)
+        missing = [child for child in shape[2] if child not in done]
         if not missing:
             weaver.finish(node, shape)
+            waiting.pop()
         elif node in entered:
             return None
         else:
             # What is above it in the list is finished before the node comes again, unless the node is within it.
-            entered[node] = True
+            entered[node] = shape
             waiting.extend(missing[::-1])
     return weaver
 

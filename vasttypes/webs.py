@@ -81,16 +81,21 @@ class Web:
         return self.shapes[node]
 
     def look(self, node):
-        """Return the row of a node with other nodes as they are found, and a mark for variables, too."""
-        word, labels, inner, tail = self.row(node)
+        """Return the row of a node that leads to itself, with such nodes within it, and with a mark for variables."""
+        shape = self.shapes[node]
+        if shape[3] is not None:
+            shape = self.row(node)
+        word, labels, inner, tail = shape
         if word == "var":
             return word, labels, inner, node
+        leads = self.leads
+        held = [child if leads[child] == child else self.leader(child) for child in inner]
         # Tails are told from variables by being below 0.
-        return word, labels, [self.leader(child) for child in inner], None if tail is None else -1 - tail
+        return word, labels, held, None if tail is None else -1 - tail
 
     def planted(self, rows):
         """Return the list of new nodes for the rows of a type."""
-        nodes = []
+        first = len(self.shapes)
         tails = {}
         for word, labels, inner, mark in rows:
             tail = None
@@ -98,8 +103,12 @@ class Web:
                 if mark not in tails:
                     tails[mark] = self.tail()
                 tail = tails[mark]
-            nodes.append(self.node((word, labels, tuple([nodes[child] for child in inner]), tail)))
-        return nodes
+            # In a web without other nodes, the numbers of rows are those of nodes.
+            nodes = tuple([first + child for child in inner]) if first > 0 else inner
+            self.shapes.append((word, labels, nodes, tail))
+        numbers = list(range(first, len(self.shapes)))
+        self.leads.extend(numbers)
+        return numbers
 
     def use(self, function, taken):
         """Use a function with a node, and return the node of the result, None if this is impossible."""
@@ -163,18 +172,18 @@ class Web:
             self.tails[other] = (left, last)
         return True
 
-    def inner_nodes(self, node):
-        """Return the list of the nodes directly within a node, as they are found."""
-        return [self.leader(child) for child in self.row(node)[2]]
-
     def has_circle(self):
         """Tell whether a node is within itself."""
+        leader = self.leader
         waiting = list(self.touched)
         done = {}
         entered = {}
         while waiting:
-            node = self.leader(waiting[-1])
-            missing = [] if node in done else [child for child in self.inner_nodes(node) if child not in done]
+            node = leader(waiting[-1])
+            if node in done:
+                waiting.pop()
+                continue
+            missing = [child for child in self.row(node)[2] if leader(child) not in done]
             if not missing:
                 done[node] = True
                 waiting.pop()
