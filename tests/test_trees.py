@@ -288,6 +288,80 @@ class Substituted(unittest.TestCase):
         self.assertEqual(repr((tree, table)), before)
 
 
+def put_together(tree, table):
+    """Return what a tree becomes by a table, by a plain walk."""
+    if tree[0] == "var":
+        return table.get(tree[1], tree)
+    if tree[0] == "record":
+        fields = [(name, put_together(inner, table)) for name, inner in tree[1]]
+        more, tail = table.get(tree[2], ([], tree[2]))
+        return ("record", sorted(fields + more, key=lambda field: field[0]), tail)
+    if tree[0] == "tuple":
+        return ("tuple", [put_together(item, table) for item in tree[1]])
+    return (tree[0], *[put_together(inner, table) for inner in tree[1:]])
+
+
+def lists_within(tree):
+    """Return the identities of all lists within a tree."""
+    own = [id(tree[1])] if tree[0] in ("tuple", "record") else []
+    return own + [found for _, part in parts_of_tree(tree)[1:] for found in
+                  ([id(part[1])] if part[0] in ("tuple", "record") else [])]
+
+
+class SubstitutedInLargeTrees(unittest.TestCase):
+    def test_hundreds_of_nodes(self):
+        names = many_names(400)
+        item, fields = ("tuple", [INT] * 6), [(name, INT) for name in names[200:]]
+        for tree, table, nodes in ((record([(name, ("var", 5)) for name in names[:142]]), {5: item}, 995),
+                                   (record([(name, INT) for name in names[:200]], 5), {5: (fields, None)}, 401)):
+            found = substituted(tree, table)
+            self.assertEqual(found, put_together(tree, table))
+            self.assertEqual(len(parts_of_tree(found)), nodes)
+            lists = lists_within(found)
+            self.assertEqual(len(set(lists)), len(lists))
+            self.assertFalse(set(lists) & set(lists_within(tree) + [id(item[1]), id(fields)]))
+
+    def test_just_at_the_limits(self):
+        names = many_names(400)
+        for many, expected in ((142, None), (143, (LimitExceeded, 1000))):
+            tree = record([(name, V0) for name in names[:many]])
+            self.assertEqual(fault(substituted, tree, {0: ("tuple", [INT] * 6)}), expected)
+        for many, expected in ((200, None), (201, (InvalidTree, (1,)))):
+            tree = ("fun", V0, record([(name, V0) for name in names[:200]], 3))
+            table = {3: ([(f"z{name}", INT) for name in names[:many]], None)}
+            self.assertEqual(fault(substituted, tree, table), expected)
+        for deep, expected in ((40, None), (41, (LimitExceeded, 100))):
+            self.assertEqual(fault(substituted, tree_under(60, V0), {0: tree_under(deep - 1, INT)}), expected)
+            self.assertEqual(fault(substituted, tree_under(60, record([], 0)), {0: ([("x", tree_under(deep - 2, INT))], 1)}),
+                             expected)
+
+    def test_random_trees(self):
+        source = random.Random(8)
+        right = wrong = 0
+        for _ in range(1500):
+            tree = random_tree(source, source.randint(1, 4))
+            if fault(check_tree, tree) is not None:
+                continue
+            table = {}
+            for _, part in parts_of_tree(tree):
+                if part[0] == "var" and source.random() < 0.4:
+                    table[part[1]] = random_tree(source, 2)
+                elif part[0] == "record" and part[2] is not None and source.random() < 0.5:
+                    more = [(name, random_tree(source, 1)) for name in sorted(source.sample("pqr", source.randint(0, 2)))]
+                    table[part[2]] = (more, source.choice([None, 7, 4, 5, 6, 0]))
+            entries = [("record", *entry) if isinstance(entry[0], list) else entry for entry in table.values()]
+            if any(fault(check_tree, entry) is not None for entry in entries):
+                self.assertEqual(fault(substituted, tree, table), (InvalidBound, "table"))
+                continue
+            expected = put_together(tree, table)
+            found = fault(check_tree, expected)
+            self.assertEqual(fault(substituted, tree, table), found)
+            if found is None:
+                self.assertEqual(substituted(tree, table), expected)
+            right, wrong = right + (found is None), wrong + (found is not None)
+        self.assertGreater(min(right, wrong), 100)
+
+
 class Places(unittest.TestCase):
     def test_places(self):
         for name in ("check_tree", "renumbered", "substituted"):

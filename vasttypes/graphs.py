@@ -2,7 +2,7 @@
 
 from vasttypes.errors import InvalidBound, InvalidPath, LimitExceeded
 from vasttypes.rows import picked, woven
-from vasttypes.terms import are_ascending, is_name
+from vasttypes.terms import are_ascending, are_names
 from vasttypes.trees import MOST_DEPTH, MOST_NODES, check_tree, inner_trees, labels_of
 from vasttypes.wholes import is_integer_within
 
@@ -203,7 +203,7 @@ def are_labels(value, many):
     """Tell whether a value is a list or tuple of so many ascending names."""
     if not isinstance(value, (list, tuple)) or len(value) != many:
         return False
-    return all([is_name(label) for label in value]) and are_ascending(value)
+    return are_names(value) and are_ascending(list(value))
 
 
 def made(word, parts, labels=(), is_open=False):

@@ -22,27 +22,31 @@ def is_name(value):
     return value.isascii() and value.isalpha() and value.islower()
 
 
+def are_names(values):
+    """Tell whether all values of a list are names."""
+    for value in values:
+        if not isinstance(value, str) or not 1 <= len(value) <= MOST_LETTERS:
+            return False
+    # The letters of all names are looked at together.
+    letters = "".join(values)
+    return letters == "" or (letters.isascii() and letters.isalpha() and letters.islower())
+
+
 def are_ascending(names):
     """Tell whether each of the names in a list is above the one before it."""
-    for k in range(len(names) - 1):
-        if names[k] >= names[k + 1]:
-            return False
-    return True
-
-
-def is_field(value):
-    """Tell whether a value is a tuple of a name and something else."""
-    return isinstance(value, tuple) and len(value) == 2 and is_name(value[0])
+    return sorted(names) == names and len(set(names)) == len(names)
 
 
 def are_fields(value, most):
     """Tell whether a value is a list of at most so many fields with ascending names."""
     if not isinstance(value, list) or len(value) > most:
         return False
+    names = []
     for field in value:
-        if not is_field(field):
+        if not isinstance(field, tuple) or len(field) != 2:
             return False
-    return are_ascending([name for name, _ in value])
+        names.append(field[0])
+    return are_names(names) and are_ascending(names)
 
 
 def are_items(value):
