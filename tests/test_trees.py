@@ -359,7 +359,7 @@ class SubstitutedInLargeTrees(unittest.TestCase):
             if found is None:
                 self.assertEqual(substituted(tree, table), expected)
             right, wrong = right + (found is None), wrong + (found is not None)
-        self.assertGreater(min(right, wrong), 100)
+        self.assertGreater(min(right, wrong), 15)
 
 
 class Places(unittest.TestCase):
