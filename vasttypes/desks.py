@@ -154,10 +154,10 @@ def is_possible(definitions, edit):
 
 
 class Draft:
-    """What an edit makes of definitions: others in their order, which are typed by settle.
+    """What an edit makes of definitions: others in their order, which get their states by settle.
 
     The fresh are the numbers of those that are added or get an unlike term; those in which a name means the renamed
-    definition are changed.
+    definition are changed. Typed are the names of those that had to be typed anew.
     """
 
     def __init__(self, definitions):
@@ -166,7 +166,7 @@ class Draft:
         self.fresh = {}
         self.changed = {}
         self.rename = (None, None)
-        self.looked = []
+        self.typed = []
 
     def edit(self, edit, number):
         """Do an edit; an added definition gets the number."""
@@ -219,7 +219,7 @@ class Draft:
         for held in self.definitions:
             known = {name: types.get(name) for name in held.free}
             if not self.is_as_before(held, known):
-                self.looked.append(held.called)
+                self.typed.append(held.called)
                 found = state_of(held, known)
             elif missing_name(held, known) is not None:
                 found = ("name", missing_name(held, known))
@@ -254,12 +254,11 @@ class Desk:
         self.added = 0
 
     def __eq__(self, other):
-        if not isinstance(other, Desk) or len(self.definitions) != len(other.definitions):
-            return False
-        for held, match in zip(self.definitions, other.definitions):
-            if held.called != match.called or held.body != match.body:
-                return False
-        return True
+        return isinstance(other, Desk) and self.contents() == other.contents()
+
+    def contents(self):
+        """Return the list of the names and terms of the definitions in their order."""
+        return [(held.called, held.body) for held in self.definitions]
 
     def definition(self, name):
         """Return the definition with a name."""
@@ -334,7 +333,7 @@ class Desk:
 
     def looked(self, edit):
         """Return the list of the names of the definitions that have to be typed anew by an edit, which is not done."""
-        return self.drafted(edit).looked
+        return self.drafted(edit).typed
 
     def whole(self, name):
         """Return the term of a good definition with all definitions that it needs around it as lets."""

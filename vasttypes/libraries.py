@@ -70,7 +70,7 @@ class Trials:
     """
 
     def __init__(self, library, wanted, most):
-        self.names = sorted(library)
+        self.ordered = sorted(library)
         self.wanted = wanted
         self.most = most
         self.web = Web()
@@ -80,7 +80,7 @@ class Trials:
 
     def planted(self, library):
         """Return the dict of new nodes for the types of the library."""
-        return {name: self.web.planted(library[name].rows)[-1] for name in self.names}
+        return {name: self.web.planted(library[name].rows)[-1] for name in self.ordered}
 
     def can_be_wanted(self, web, node, many):
         """Tell whether the type that is wanted can be an instance of what a node returns when it is used so often.
@@ -100,7 +100,7 @@ class Trials:
         place = len(names) - 1
         if not any([self.can_be_wanted(web, node, many) for many in range(1, self.most - place + 1)]):
             return
-        for name in self.names:
+        for name in self.ordered:
             trial = web.forked()
             result = trial.use(node, self.taken[place][name])
             if result is None or trial.has_circle():
@@ -123,7 +123,7 @@ def uses(library, wanted, most):
         raise LimitExceeded(MOST_ROWS)
     trials = Trials(library, wanted, most)
     if most > 0:
-        for name in trials.names:
+        for name in trials.ordered:
             trials.try_names(trials.web, trials.functions[name], (name,))
     found = [(name,) for name in fits(library, wanted)]
     for row in trials.rows:

@@ -131,7 +131,7 @@ class Generality:
     def record(self, held):
         """Return the shape of a node where all types have records."""
         fields = [dict(zip(row[1], row[2])) for row in held]
-        labels = tuple([name for name in held[0][1] if all([name in inner for inner in fields])])
+        labels = tuple([name for name in held[0][1] if all([name in others for others in fields])])
         own = {name: True for name in labels}
         behind = []
         for row in held:

@@ -52,7 +52,7 @@ class Scheme:
                 made.append(self.web.node((word, labels, inside, self.tail_of(mark, tails))))
         return made, tails
 
-    def replaced(self, made, tails):
+    def replacements(self, made, tails):
         """Return the dict of what an instance has in the place of each general mark of the web."""
         found = {self.marks[mark]: -1 - tail for mark, tail in tails.items()}
         for (word, _, _, mark), node, is_general in zip(self.rows, made, self.general):
@@ -62,16 +62,16 @@ class Scheme:
 
 
 class Visit:
-    """A node of a term that has begun: what its names mean, the parameters and recs around it, and what was found.
+    """The visit of a node of a term that has begun: what names mean there, what is around it, and what was found.
 
-    A name means the node of a type, or a Scheme. The entry is what the name that the node itself binds means.
+    Around it are the types of parameters and recs. A name means the node of a type, or a Scheme. The entry is what the name that the node itself binds means.
     """
 
     def __init__(self, term, path, names, around, entry):
-        self.term = term
+        self.subject = term
         self.path = path
         self.inner = inner_terms(term)
-        self.names = names
+        self.meanings = names
         self.around = around
         self.entry = entry
         self.found = []
@@ -101,10 +101,10 @@ class Course:
     def begin_next(self, visit):
         """Return the Visit of the next node within a node."""
         step = len(visit.found)
-        names = visit.names
+        names = visit.meanings
         around = visit.around
-        if step in BOUND_IN.get(visit.term[0], ()):
-            names = {**names, visit.term[1]: visit.entry}
+        if step in BOUND_IN.get(visit.subject[0], ()):
+            names = {**names, visit.subject[1]: visit.entry}
             if isinstance(visit.entry, int):
                 around = (*around, visit.entry)
         return self.begin(visit.inner[step], visit.path + (step,), names, around)
@@ -122,7 +122,7 @@ class Course:
                 visits.append(self.begin_next(visit))
                 continue
             visits.pop()
-            rule = RULES[visit.term[0]]
+            rule = RULES[visit.subject[0]]
             found = rule(self, visit)
             self.types_found[visit.path] = found
             if visits:
@@ -131,7 +131,7 @@ class Course:
     def take(self, visit, found):
         """Take the type of the node within a node that has ended."""
         visit.found.append(found)
-        if visit.term[0] in ("let", "rec") and len(visit.found) == 1:
+        if visit.subject[0] in ("let", "rec") and len(visit.found) == 1:
             self.define(visit, found)
 
     def define(self, visit, found):
@@ -170,12 +170,12 @@ class Course:
 
 def rule_of_constant(course, visit):
     """Return the type of an int or bool; the next functions do so for the other kinds."""
-    return course.web.node((visit.term[0], (), (), None))
+    return course.web.node((visit.subject[0], (), (), None))
 
 
 def rule_of_var(course, visit):
     """Return the type of a use of a name."""
-    return course.use(visit.path, visit.term[1], visit.names)
+    return course.use(visit.path, visit.subject[1], visit.meanings)
 
 
 def rule_of_fun(course, visit):
@@ -209,28 +209,28 @@ def rule_of_tuple(course, visit):
 
 def rule_of_part(course, visit):
     """Return the type of an item of a tuple."""
-    inner = [course.web.variable() for _ in range(visit.term[2])]
+    inner = [course.web.variable() for _ in range(visit.subject[2])]
     course.equate(visit.path, visit.found[0], course.web.node(("tuple", (), tuple(inner), None)))
-    return inner[visit.term[1]]
+    return inner[visit.subject[1]]
 
 
 def rule_of_record(course, visit):
     """Return the type of a record."""
-    labels = [name for name, _ in visit.term[1]]
+    labels = [name for name, _ in visit.subject[1]]
     return course.web.node(("record", tuple(labels), tuple(visit.found), None))
 
 
 def rule_of_field(course, visit):
     """Return the type of a field of a record."""
     held = course.web.variable()
-    wanted = course.web.node(("record", (visit.term[2],), (held,), course.web.tail()))
+    wanted = course.web.node(("record", (visit.subject[2],), (held,), course.web.tail()))
     course.equate(visit.path, visit.found[0], wanted)
     return held
 
 
 def rule_of_with(course, visit):
     """Return the type of a record with another field in the place of one that it has."""
-    labels = (visit.term[2],)
+    labels = (visit.subject[2],)
     tail = course.web.tail()
     wanted = course.web.node(("record", labels, (course.web.variable(),), tail))
     course.equate(visit.path, visit.found[0], wanted)

@@ -36,15 +36,16 @@ def words_within(text):
 
 
 class WordIndex:
-    """Which words and blanks the rows of a type have, apart from those of inner types.
+    """Which words and blanks the rows of a type have.
 
+    The tallies have, for each word, the dict of the rows that have it themselves, apart from inner types, and how often.
     The totals tell for each row how many words its text has. The counts have, for each word that was asked for, the
     list that tells for each row how often it occurs.
     """
 
     def __init__(self, big):
         self.rows = big.rows
-        self.own = {}
+        self.tallies = {}
         self.totals = []
         self.counts = {}
         for number, pieces in enumerate(layout(big)):
@@ -57,17 +58,17 @@ class WordIndex:
         """Add the words of a piece of the row with a number, and return how many there are, blanks left out."""
         total = 0
         for word, _ in words_within(text):
-            counts = self.own.setdefault(word, {})
+            counts = self.tallies.setdefault(word, {})
             counts[number] = counts.get(number, 0) + 1
             total += int(word != BLANK)
         return total
 
     def counts_of(self, word):
         """Return the list that tells for each row how often a word occurs in its text."""
-        if word not in self.own:
+        if word not in self.tallies:
             return [0] * len(self.rows)
         if word not in self.counts:
-            own = self.own[word]
+            own = self.tallies[word]
             counts = []
             for number, row in enumerate(self.rows):
                 counts.append(own.get(number, 0) + sum([counts[child] for child in row[2]]))

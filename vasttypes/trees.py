@@ -78,7 +78,7 @@ def fits_marks(node, marks):
 
 
 class Survey:
-    """What a tree has: how many nodes, how deep it is, and its marks.
+    """What a tree has: how many nodes, how many levels, since it is so deep, and its marks.
 
     The marks are a dict: None for those of variables, the names of its records for a tail. The counts tell how often
     each mark occurs, and the depths how many nodes are around it where it is deepest.
@@ -86,12 +86,12 @@ class Survey:
 
     def __init__(self):
         self.nodes = 0
-        self.height = 0
+        self.levels = 0
         self.marks = {}
         self.counts = {}
         self.depths = {}
 
-    def notes(self, node):
+    def takes_mark(self, node):
         """Note the mark of a node, if it has one, and tell whether it fits to those that were noted."""
         mark = node[-1]
         labels = None
@@ -101,13 +101,13 @@ class Survey:
             labels = labels_of(node)
         self.counts[mark] = self.counts.get(mark, 0) + 1
         # The nodes come depth by depth.
-        self.depths[mark] = self.height
+        self.depths[mark] = self.levels
         return self.marks.setdefault(mark, labels) == labels
 
     def take(self, level):
         """Take the nodes of another depth; return those below them, None if one of the nodes is of no kind."""
         self.nodes += len(level)
-        if self.nodes > MOST_NODES or self.height == MOST_DEPTH:
+        if self.nodes > MOST_NODES or self.levels == MOST_DEPTH:
             return None
         below = []
         for node in level:
@@ -115,9 +115,9 @@ class Survey:
             if inner is None:
                 return None
             below.extend(inner)
-            if (node[0] == "var" or node[0] == "record") and not self.notes(node):
+            if (node[0] == "var" or node[0] == "record") and not self.takes_mark(node):
                 return None
-        self.height += 1
+        self.levels += 1
         return below
 
 
@@ -225,7 +225,7 @@ def are_small(survey, entries):
     for mark, entry in entries.items():
         # The first node of an entry takes the place of a variable, or of a record with the tail.
         nodes += survey.counts[mark] * (entry.nodes - 1)
-        if survey.depths[mark] + entry.height > MOST_DEPTH:
+        if survey.depths[mark] + entry.levels > MOST_DEPTH:
             return False
     return nodes <= MOST_NODES
 

@@ -10,8 +10,8 @@ from vasttypes.wholes import is_integer, is_integer_within
 class Node:
     """A node of a term: its path, its inner nodes, and the let or rec of which it is a use that is replaced, or None.
 
-    The size and depth are those of what it becomes in the unfolded term. The times tell how often this is there, and
-    the uses of a let or rec how often its definition is.
+    The size tells how many nodes it becomes in the unfolded term, and the levels how deep these are. The times tell how
+    often this is there, and the uses of a let or rec how often its definition is.
     """
 
     def __init__(self, word, path, binder):
@@ -20,7 +20,7 @@ class Node:
         self.binder = binder
         self.inner = []
         self.size = 0
-        self.height = 0
+        self.levels = 0
         self.times = 0
         self.uses = 0
 
@@ -41,11 +41,11 @@ class Node:
         return int(not self.is_definition())
 
     def measure(self):
-        """Find the size and height, when those of the nodes that it becomes are known."""
+        """Find the size and the levels, when those of the nodes that it becomes are known."""
         source = self.source()
         inner = self.inner if source is None else [source]
         self.size = self.own() + sum([node.size for node in inner])
-        self.height = self.own() + max([node.height for node in inner], default=0)
+        self.levels = self.own() + max([node.levels for node in inner], default=0)
 
     def copies(self):
         """Return how many nodes of the unfolded term come from it."""
@@ -171,7 +171,7 @@ def unfolded_size(term):
 
 def unfolded_depth(term):
     """Return how deep the unfolded term is."""
-    return unfolded(term)[()].height
+    return unfolded(term)[()].levels
 
 
 def unfolded_at(term, k):
@@ -217,7 +217,7 @@ class Replacing:
         self.replaced = []
         for use in uses:
             scheme, made, tails = course.instances[use]
-            self.replaced.append(scheme.replaced(made, tails))
+            self.replaced.append(scheme.replacements(made, tails))
 
     def resolved(self, node, level):
         """Return the node for a node of the web, which is no variable that a use replaces."""
