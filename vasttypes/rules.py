@@ -64,7 +64,8 @@ class Scheme:
 class Visit:
     """The visit of a node of a term that has begun: what names mean there, what is around it, and what was found.
 
-    Around it are the types of parameters and recs. A name means the node of a type, or a Scheme. The entry is what the name that the node itself binds means.
+    Around it are the types of parameters and recs. A name means the node of a type, or a Scheme. The entry is what the
+    name that the node itself binds means.
     """
 
     def __init__(self, term, path, names, around, entry):

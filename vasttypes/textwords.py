@@ -38,7 +38,7 @@ def words_within(text):
 class WordIndex:
     """Which words and blanks the rows of a type have.
 
-    The tallies have, for each word, the dict of the rows that have it themselves, apart from inner types, and how often.
+    The tallies have, for each word, a dict: how often the rows that have it themselves, apart from inner types, do so.
     The totals tell for each row how many words its text has. The counts have, for each word that was asked for, the
     list that tells for each row how often it occurs.
     """
