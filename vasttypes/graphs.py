@@ -101,9 +101,16 @@ def part_of(rows, number):
     return settled(number, lambda node: rows[node])
 
 
+def inner_rows(big):
+    """Return the list that tells for each row which ones are directly within it, each once; it is made once."""
+    if "inner" not in big.notes:
+        big.notes["inner"] = [tuple({child: True for child in row[2]}) for row in big.rows]
+    return big.notes["inner"]
+
+
 def own_part(big, number):
     """Return the Vast of the row of a type with a number."""
-    return Vast(tuple(picked(big.rows, number)))
+    return Vast(picked(big.rows, inner_rows(big), number))
 
 
 def row_at(big, path):

@@ -1,7 +1,7 @@
 """The parts within types by their numbers."""
 
 from vasttypes.errors import InvalidBound
-from vasttypes.graphs import own_part, row_at, uses_of
+from vasttypes.graphs import inner_rows, own_part, row_at, uses_of
 from vasttypes.wholes import is_integer, is_integer_within
 
 
@@ -163,15 +163,16 @@ def same_number(big, path):
     return census_of_same(big, row_at(big, path)).number_before(path)
 
 
-def rows_by_beginning(rows):
+def rows_by_beginning(big):
     """Return the list of the numbers of all rows of a type, in the order in which they first begin in its text."""
+    inner = inner_rows(big)
     found = {}
-    waiting = [len(rows) - 1]
+    waiting = [len(inner) - 1]
     while waiting:
         row = waiting.pop()
         if row not in found:
             found[row] = True
-            waiting.extend([child for child in rows[row][2] if child not in found][::-1])
+            waiting.extend([child for child in inner[row] if child not in found][::-1])
     return list(found)
 
 
@@ -182,7 +183,7 @@ def unlike_rows(big):
     for number, uses in zip(classes, uses_of(big.rows)):
         counts[number] = counts.get(number, 0) + uses
     firsts = {}
-    for row in rows_by_beginning(big.rows):
+    for row in rows_by_beginning(big):
         firsts.setdefault(classes[row], row)
     return [(row, counts[number]) for number, row in firsts.items()]
 

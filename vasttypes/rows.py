@@ -60,13 +60,16 @@ def woven(root, look):
     return weaver
 
 
-def rows_within(rows, number):
-    """Return the dict of a row of a type and those within it, in the order in which they first end in its text."""
+def rows_within(inner, number):
+    """Return the dict of a row of a type and those within it, in the order in which they first end in its text.
+
+    The values are their numbers in this order; inner tells for each row which ones are directly within it.
+    """
     done = {}
     waiting = [number]
     while waiting:
         top = waiting[-1]
-        missing = [child for child in rows[top][2] if child not in done]
+        missing = [child for child in inner[top] if child not in done]
         if missing:
             waiting.extend(missing[::-1])
         else:
@@ -75,14 +78,20 @@ def rows_within(rows, number):
     return done
 
 
-def picked(rows, number):
-    """Return the list of the rows of the type that one of the rows of a type has."""
-    places = rows_within(rows, number)
+def picked(rows, inner, number):
+    """Return the tuple of the rows of the type that one of the rows of a type has, given what is within each."""
+    places = rows_within(inner, number)
     marks = {None: None}
     found = []
-    for old in places:
-        word, labels, inner, mark = rows[old]
+    # As long as all rows keep their numbers and marks, they are the very same.
+    is_same = True
+    for old, place in places.items():
+        word, labels, children, mark = rows[old]
         # The entry for no mark is there ahead of the others.
         own = marks.setdefault(mark, len(marks) - 1)
-        found.append((word, labels, tuple([places[child] for child in inner]), own))
-    return found
+        is_same = is_same and place == old and own == mark
+        if is_same:
+            found.append(rows[old])
+        else:
+            found.append((word, labels, tuple([places[child] for child in children]), own))
+    return tuple(found)
