@@ -7,7 +7,7 @@ from vasttypes.graphs import Vast
 from vasttypes.inference import is_library, kept_course, type_if_any
 from vasttypes.order import is_instance, matched
 from vasttypes.terms import check_term, free_names, free_uses
-from vasttypes.webs import Web
+from vasttypes.webs import VARIABLE, Web, shifted
 from vasttypes.wholes import is_integer_within
 
 MOST_NAMES = 100
@@ -65,22 +65,33 @@ def applied(function, arguments):
 class Trials:
     """What has been found while functions of a library are used with others: the pairs and triples of names.
 
-    The web has the types of the library, as functions and as what these are used with at each place, so that it need
-    only be forked for a trial.
+    In the web of a trial the types stand at the same numbers again and again, with room for the largest of them, so
+    that their rows are made once for each place: that of the function, and those of what it is used with. Behind each
+    of the latter there are the two nodes that a use adds.
     """
 
     def __init__(self, library, wanted, most):
+        self.library = library
         self.ordered = sorted(library)
         self.wanted = wanted
         self.most = most
-        self.web = Web()
-        self.functions = self.planted(library)
-        self.taken = [self.planted(library) for _ in range(most)]
+        self.room = max([len(library[name].rows) for name in self.ordered], default=0)
+        self.shapes = [{name: self.shapes_at(name, place) for name in self.ordered} for place in range(most + 1)]
         self.rows = [[] for _ in range(most)]
 
-    def planted(self, library):
-        """Return the dict of new nodes for the types of the library."""
-        return {name: self.web.planted(library[name].rows)[-1] for name in self.ordered}
+    def first_at(self, place):
+        """Return the number of the first node at a place."""
+        return place * (self.room + 2) - 2 if place > 0 else 0
+
+    def shapes_at(self, name, place):
+        """Return the rows of the nodes for the type of a name at a place."""
+        shapes = shifted(self.library[name].rows, self.first_at(place), place * self.room)
+        return shapes + [VARIABLE] * (self.room - len(shapes))
+
+    def placed(self, web, name, place):
+        """Return the node for the type of a name at a place of a web, whose nodes come next."""
+        web.add_shapes(self.shapes[place][name])
+        return self.first_at(place) + len(self.library[name].rows) - 1
 
     def can_be_wanted(self, web, node, many):
         """Tell whether the type that is wanted can be an instance of what a node returns when it is used so often.
@@ -95,19 +106,26 @@ class Trials:
             node = web.leader(row[2][1])
         return matched(node, web.look, self.wanted.rows) is not None
 
+    def try_function(self, name):
+        """Use the type of a name with all others."""
+        web = Web()
+        # There are as many tails as there could be, since their numbers are those of the places, too.
+        web.add_tails(self.room * (self.most + 1))
+        self.try_names(web, self.placed(web, name, 0), (name,))
+
     def try_names(self, web, node, names):
         """Use the node of a function, which has been used with the names behind the first one, with all others."""
-        place = len(names) - 1
-        if not any([self.can_be_wanted(web, node, many) for many in range(1, self.most - place + 1)]):
+        place = len(names)
+        if not any([self.can_be_wanted(web, node, many) for many in range(1, self.most - place + 2)]):
             return
         for name in self.ordered:
             trial = web.forked()
-            result = trial.use(node, self.taken[place][name])
-            if result is None or trial.has_circle():
+            result = trial.use(node, self.placed(trial, name, place))
+            if result is None:
                 continue
-            if self.can_be_wanted(trial, result, 0):
-                self.rows[place].append((*names, name))
-            if place + 1 < self.most:
+            if self.can_be_wanted(trial, result, 0) and not trial.has_circle():
+                self.rows[place - 1].append((*names, name))
+            if place < self.most:
                 self.try_names(trial, result, (*names, name))
 
 
@@ -124,7 +142,7 @@ def uses(library, wanted, most):
     trials = Trials(library, wanted, most)
     if most > 0:
         for name in trials.ordered:
-            trials.try_names(trials.web, trials.functions[name], (name,))
+            trials.try_function(name)
     found = [(name,) for name in fits(library, wanted)]
     for row in trials.rows:
         found.extend(row)

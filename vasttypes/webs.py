@@ -5,6 +5,20 @@ from vasttypes.graphs import settled
 VARIABLE = ("var", (), (), None)
 
 
+def shifted(rows, first, first_tail):
+    """Return the rows of a type as those of nodes of a web, which have the numbers from first on, as have the tails."""
+    shapes = []
+    tails = {}
+    for word, labels, inner, mark in rows:
+        tail = None
+        if word == "record" and mark is not None:
+            tail = tails.setdefault(mark, first_tail + len(tails))
+        # In a web without other nodes, the numbers of rows are those of nodes.
+        nodes = tuple([first + child for child in inner]) if first > 0 else inner
+        shapes.append((word, labels, nodes, tail))
+    return shapes
+
+
 class Web:
     """Types of which some have been made equal, so that their variables and tails have become something else.
 
@@ -95,20 +109,20 @@ class Web:
 
     def planted(self, rows):
         """Return the list of new nodes for the rows of a type."""
-        first = len(self.shapes)
-        tails = {}
-        for word, labels, inner, mark in rows:
-            tail = None
-            if word == "record" and mark is not None:
-                if mark not in tails:
-                    tails[mark] = self.tail()
-                tail = tails[mark]
-            # In a web without other nodes, the numbers of rows are those of nodes.
-            nodes = tuple([first + child for child in inner]) if first > 0 else inner
-            self.shapes.append((word, labels, nodes, tail))
-        numbers = list(range(first, len(self.shapes)))
-        self.leads.extend(numbers)
-        return numbers
+        shapes = shifted(rows, len(self.shapes), len(self.tails))
+        self.add_tails(max([shape[3] for shape in shapes if shape[3] is not None], default=-1) + 1)
+        return self.add_shapes(shapes)
+
+    def add_tails(self, many):
+        """Add new tails, so that there are at least so many."""
+        self.tails.extend([None] * (many - len(self.tails)))
+
+    def add_shapes(self, shapes):
+        """Return the list of new nodes for rows that have the numbers of these nodes."""
+        nodes = list(range(len(self.shapes), len(self.shapes) + len(shapes)))
+        self.shapes.extend(shapes)
+        self.leads.extend(nodes)
+        return nodes
 
     def use(self, function, taken):
         """Use a function with a node, and return the node of the result, None if this is impossible."""
