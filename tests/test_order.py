@@ -51,6 +51,7 @@ GENERALS = [
      "{x: int | 'a} * {x: 'b | 'a}"),
     ("{x: int, y: bool} * {y: bool}", "{x: int, z: bool} * {z: bool}", "{x: int | 'a} * {| 'b}"),
     ("{x: int, y: int | 'a} * {x: int, y: int | 'a}", "{x: int | 'a} * {x: int | 'a}", "{x: int | 'a} * {x: int | 'a}"),
+    ("int * {x: int} * {y: int} * {z: int}", "bool * {a: int} * {b: int} * {c: int}", "'a * {| 'b} * {| 'c} * {| 'd}"),
     ("(int -> bool) * int", "(int -> int) * 'a", "(int -> 'a) * 'b"), ("(int -> bool) * bool", "(int -> int) * int",
                                                                       "(int -> 'a) * 'a"),
 ]

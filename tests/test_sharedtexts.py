@@ -247,7 +247,8 @@ class Read(unittest.TestCase):
         many = "{" + ", ".join(f"{name}: int" for name in many_names(400)) + "}"
         more = "{" + ", ".join(f"{name}: int" for name in many_names(401)) + "}"
         six, seven = " * ".join(["int"] * 6), " * ".join(["int"] * 7)
-        for lines, expected in ((["{b: int, a: int}"], (0, 9)), (["{a: int, a: int}"], (0, 9)), ([many], None),
+        for lines, expected in ((["{b: int, a: int}"], (0, 9)), (["{a: int, a: int}"], (0, 9)), (["{a: int, c: int, b: int}"], (0, 17)),
+                                (["{a: int, c: int, c: int}"], (0, 17)), (["{a: int, b: int, c: int}"], None), ([many], None),
                                 ([more], (0, more.index("pk:"))), ([six], None), ([seven], (0, 36)),
                                 (["int", "#0 * #0 * #0 * #0 * #0 * #0 * (int -> int)"], (1, 30)),
                                 (["{x: " + seven + "}"], (0, 40)), (["(" + seven + ") * int"], (0, 37)),

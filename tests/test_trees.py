@@ -335,6 +335,12 @@ class SubstitutedInLargeTrees(unittest.TestCase):
             self.assertEqual(fault(substituted, tree_under(60, record([], 0)), {0: ([("x", tree_under(deep - 2, INT))], 1)}),
                              expected)
 
+    def test_entries_in_which_the_tail_is_twice(self):
+        entry = ([("q", record([("q", INT)], 7))], 7)
+        self.assertEqual(substituted(record([], 1), {1: entry}), record([("q", record([("q", INT)], 7))], 7))
+        for tree, path in ((record([("a", INT)], 1), (1,)), (record([("z", INT)], 1), (0,))):
+            self.assertEqual(fault(substituted, tree, {1: entry}), (InvalidTree, path))
+
     def test_random_trees(self):
         source = random.Random(8)
         right = wrong = 0
