@@ -63,7 +63,12 @@ class Equating:
             self.many += 1
         self.is_done = self.many == len(numbers)
 
-    def vast_at(self, number):
+    def whole(self):
+        """Return the Vast of what the type has become, None if not all pairs could be made equal."""
+        # A circle anywhere would be found here, since all nodes are within that of the whole.
+        return self.web.vast_of(self.nodes[-1]) if self.is_done else None
+
+    def part(self, number):
         """Return the Vast of what the row with a number has become, None if not all pairs could be made equal."""
         if not self.is_done or self.web.has_circle():
             return None
@@ -96,7 +101,7 @@ def most_fitting(big, numbers):
 
 def equated(big, pairs):
     """Return the most general instance of a type in which the two parts of each pair are equal, None if none is."""
-    return Equating(big, row_pairs(big, pairs)).vast_at(-1)
+    return Equating(big, row_pairs(big, pairs)).whole()
 
 
 def fitting(big, pairs):
@@ -108,4 +113,4 @@ def becomes(big, pairs, path):
     """Return what the part with a path becomes if the two parts of each pair are equal, None if they cannot be."""
     numbers = row_pairs(big, pairs)
     number = row_at(big, path)
-    return Equating(big, numbers).vast_at(number)
+    return Equating(big, numbers).part(number)

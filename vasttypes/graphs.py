@@ -144,8 +144,11 @@ class Follower:
             raise InvalidPath(path)
         # Mostly at most the last step of one of the paths is another one; otherwise at least half of what they share
         # is found.
-        many = max(min(len(path), len(self.path)) - 1, 0)
-        while path[:many] != self.path[:many]:
+        last = self.path
+        many = len(path) if len(path) < len(last) else len(last)
+        if many > 0:
+            many = many - 1
+        while path[:many] != last[:many]:
             many = many // 2
         trail = self.trail[:many + 1]
         for step in path[many:]:

@@ -9,27 +9,12 @@ and the marks are numbered in the order of the text. So two types are equal if t
 
 
 class Weaver:
-    """What is needed while the rows of a type are made of the nodes of a graph."""
+    """The rows of a type that are made of the nodes of a graph, a node for each, and the marks in their order."""
 
     def __init__(self):
         self.rows = []
         self.nodes = []
         self.marks = {}
-        self.numbers = {}
-        self.done = {}
-
-    def finish(self, node, shape):
-        """Make the row of a node whose inner nodes have their rows, unless there is such a row already."""
-        word, labels, inner, mark = shape
-        done = self.done
-        if mark is not None:
-            mark = self.marks.setdefault(mark, len(self.marks))
-        row = (word, labels, tuple([done[child] for child in inner]), mark)
-        number = self.numbers.setdefault(row, len(self.rows))
-        if number == len(self.rows):
-            self.rows.append(row)
-            self.nodes.append(node)
-        done[node] = number
 
 
 def woven(root, look):
@@ -38,7 +23,10 @@ def woven(root, look):
     look(node) returns the word, labels, inner nodes and mark of a node.
     """
     weaver = Weaver()
-    done = weaver.done
+    rows = weaver.rows
+    marks = weaver.marks
+    numbers = {}
+    done = {}
     entered = {}
     waiting = [root]
     while waiting:
@@ -47,16 +35,23 @@ def woven(root, look):
             waiting.pop()
             continue
         shape = entered[node] if node in entered else look(node)
-        missing = [child for child in shape[2] if child not in done]
-        if not missing:
-            weaver.finish(node, shape)
-            waiting.pop()
-        elif node in entered:
+        word, labels, inner, mark = shape
+        missing = [child for child in inner if child not in done]
+        if missing and node in entered:
             return None
-        else:
+        if missing:
             # What is above it in the list is finished before the node comes again, unless the node is within it.
             entered[node] = shape
             waiting.extend(missing[::-1])
+            continue
+        waiting.pop()
+        if mark is not None:
+            mark = marks.setdefault(mark, len(marks))
+        row = (word, labels, tuple([done[child] for child in inner]), mark)
+        done[node] = numbers.setdefault(row, len(rows))
+        if done[node] == len(rows):
+            rows.append(row)
+            weaver.nodes.append(node)
     return weaver
 
 
