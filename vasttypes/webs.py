@@ -6,7 +6,7 @@ VARIABLE = ("var", (), (), None)
 
 
 def shifted(rows, first, first_tail):
-    """Return the rows of a type as those of nodes of a web, which have the numbers from first on, as have the tails."""
+    """Return the rows of a type as those of nodes with the numbers from first on, and of tails from first_tail on."""
     shapes = []
     tails = {}
     for word, labels, inner, mark in rows:
