@@ -150,6 +150,16 @@ class Check(unittest.TestCase):
             self.assert_limit(nested(2000, around, INT), 100)
 
 
+class ClosedRecords(unittest.TestCase):
+    def test_their_names_are_their_own(self):
+        closed = [record([("a", INT)]), record([("b", INT)]), record([]), record([("a", INT), ("b", INT)])]
+        self.assertIsNone(check_tree(("tuple", closed)))
+        for wrong in (None, ("var", -1), record([], True)):
+            self.assertEqual(fault(check_tree, ("tuple", closed + [wrong])), (InvalidTree, (4,)))
+            self.assertEqual(fault(substituted, ("tuple", closed + [V0]), {0: wrong}), (InvalidBound, "table"))
+        self.assertEqual(fault(substituted, ("tuple", closed + [V0, record([], 1)]), {0: V1}), (InvalidTree, (5,)))
+
+
 class Renumbered(unittest.TestCase):
     def test_order_of_the_text(self):
         for tree, expected in ((("var", 7), V0), (("fun", ("var", 7), ("fun", ("var", 3), ("var", 7))),
