@@ -6,6 +6,7 @@ from vasttypes.errors import (InvalidBound, InvalidName, InvalidPath, InvalidTer
                               LimitExceeded, NoType, VastError)
 from vasttypes.graphs import vast
 from vasttypes.inference import infer_in
+from vasttypes.termtexts import read_term
 from vasttypes.treetexts import read_tree, tree_text
 
 X = ("var", "x")
@@ -233,6 +234,36 @@ def random_program(source, levels, scope=()):
             "part": lambda: (kind, source.randrange(2), 2, inner()),
             "record": lambda: (kind, [(held, inner()) for held in source.choice(["", "x", "y", "xy"])]),
             "field": lambda: (kind, inner(), label), "with": lambda: (kind, inner(), label, inner())}[kind]()
+
+
+# Terms with x at which a type comes to be within itself, each with the path of the node.
+CIRCLES = [("( x x )", ()), ("( if ( x x ) then 1 else 2 )", (0,)), ("( 0 of 2 ( x x ) )", (0,)),
+           ("( if true then x else ( fun y . x ) )", ()), ("( if true then ( x , 1 ) else x )", ()),
+           ("( if true then { a = x } else x )", ()), ("( if true then x else ( x with a = x ) )", ()),
+           ("( ( x . a ) ( if true then x else ( x . a ) ) )", (1,)), ("( let z = ( x x ) in 1 )", (0,)),
+           ("( rec f = ( fun y . f ) in x )", (0,)), ("( ( fun y . ( y y ) ) x )", (0, 0)),
+           ("( fun y . ( if true then ( x , y ) else ( y , ( fun z . x ) ) ) )", (0,))]
+
+# Terms with x at which types clash, wherever something else has come to be within itself.
+CLASHES = ["( 1 2 )", "( if true then ( fun y . 1 ) else x )", "( if true then x else ( fun y . 1 ) )",
+           "( if true then ( 1 , true ) else x )", "( if true then { a = { } } else x )",
+           "( if true then x else ( fun y . ( x with a = 1 ) ) )", "( ( x ( 0 of 2 x ) ) true )", "( x { b = x } )",
+           "( let y = x in ( if ( y 1 ) then y else ( y . b ) ) )", "( if x then ( x with a = x ) else { b = x } )",
+           "( rec f = ( fun y . ( if true then x else f ) ) in ( f 1 ) )", "( ( fun y . ( y . a ) ) ( x , x ) )",
+           "( if true then ( fun y . y ) else ( if true then ( fun y . ( y , x ) ) else x ) )"]
+
+
+def circles_ahead_of_clashes():
+    """Return a list of tuples (term, path): functions of x without a type, and the paths of the first nodes."""
+    found = []
+    for early, path in CIRCLES:
+        for late in CLASHES:
+            first, last = read_term(early), read_term(late)
+            found.append((("fun", "x", ("tuple", [first, last])), (0, 0, *path)))
+            found.append((("fun", "x", ("tuple", [X, IDENTITY, first, X, last, last])), (0, 2, *path)))
+            found.append((("fun", "x", ("let", "w", ("fun", "x", first), last)), (0, 0, 0, *path)))
+            found.append((("fun", "x", ("let", "w", ("app", IDENTITY, first), ("fun", "v", last))), (0, 0, 1, *path)))
+    return found
 
 
 def of(text):

@@ -4,8 +4,8 @@ import copy
 import random
 import unittest
 
-from samples import (IDENTITY, INT, X, Y, fault, many_names, nested, no_integers, no_lists, no_names, no_nodes, of,
-                     other_values, random_program, sized, text_of, under)
+from samples import (IDENTITY, INT, X, Y, circles_ahead_of_clashes, fault, many_names, nested, no_integers, no_lists,
+                     no_names, no_nodes, of, other_values, random_program, sized, text_of, under)
 from vasttypes import desks
 from vasttypes.desks import Desk, replay
 from vasttypes.errors import (InvalidBound, InvalidCall, InvalidName, InvalidTerm, LimitExceeded, NoType, VastError)
@@ -294,6 +294,12 @@ class Examples(unittest.TestCase):
         self.assertEqual(desk.do(("put", "a", ("int", 1))), [("a", "good"), ("b", "good")])
         self.assertEqual(desk.do(("move", "c", 6)), [("b", "bad"), ("d", "fault"), ("f", "bad")])
         self.assertEqual([desk.state(name) for name in "bdf"], [("name", "c")] * 3)
+
+    def test_path_state(self):
+        for term, path in circles_ahead_of_clashes()[:60]:
+            desk = Desk()
+            self.assertEqual(desk.do(("add", 0, "a", term)), [("a", "new")])
+            self.assertEqual(desk.state("a"), ("path", path))
 
     def test_limit_state(self):
         many = many_names(60)

@@ -4,8 +4,9 @@ import random
 import unittest
 
 from plain import NoPlainType, Typing
-from samples import (BOOL, IDENTITY, INT, V0, V1, X, every_kind, fault, nested, no_names, no_nodes, of, other_values,
-                     random_program, random_tree, sized, text_of, under, used_often)
+from samples import (BOOL, CIRCLES, CLASHES, IDENTITY, INT, V0, V1, X, circles_ahead_of_clashes, every_kind, fault,
+                     nested, no_names, no_nodes, of, other_values, random_program, random_tree, sized, text_of, under,
+                     used_often)
 from vasttypes import inference
 from vasttypes.errors import InvalidBound, InvalidName, InvalidPath, InvalidTerm, LimitExceeded, NoType
 from vasttypes.graphs import made, towers, vast
@@ -216,6 +217,46 @@ class NoTypes(unittest.TestCase):
             self.assertEqual(fault(infer, term), (NoType, (0, 1)), later)
         growth = read_term("( let y = ( fun z . ( x , z ) ) in y )")
         self.assertEqual(fault(infer, ("fun", "x", ("app", circle, growth))), (NoType, (0, 0)))
+
+    def test_circles_ahead_of_clashes(self):
+        for term, path in circles_ahead_of_clashes():
+            for function in (infer, definition_types, lambda term: node_type(term, None),
+                             lambda term: infer_in(term, {})):
+                self.assertEqual(fault(function, term), (NoType, path), term)
+
+    def test_clashes_ahead_of_circles(self):
+        for early, place in (("( 1 2 )", ()), ("( if true then ( fun y . 1 ) else { a = x } )", ()),
+                             ("( ( x 1 ) ( x . a ) )", (1,)), ("( 0 of 2 ( 1 , 2 , x ) )", ()),
+                             ("( if 1 then ( fun y . x ) else x )", ())):
+            for late, _ in CIRCLES:
+                term = ("fun", "x", ("tuple", [X, read_term(early), read_term(late)]))
+                self.assertEqual(fault(infer, term), (NoType, (0, 1, *place)), term)
+
+    def test_clashes_that_make_circles(self):
+        # What would be equal in part at the node where types clash is within itself; so it is at none ahead of it.
+        for text, path in (("( fun x . ( 1 , ( if true then ( 1 , x ) else ( true , ( fun y . x ) ) ) ) )", (0, 1)),
+                           ("( fun x . ( if true then ( x , 1 ) else ( ( fun y . x ) , true ) ) )", (0,)),
+                           ("( fun x . ( if x then ( x , x ) else x ) )", (0,)),
+                           ("( fun x . ( rec f = ( fun y . ( ( f x ) , f ) ) in f ) )", (0, 0)),
+                           ("( fun x . ( { a = 1 , b = x } , ( if true then { a = 1 , b = x } else "
+                            "{ a = true , b = ( x , x ) } ) ) )", (0, 1))):
+            self.assertEqual(fault(infer, read_term(text)), (NoType, path), text)
+
+    def test_drawn_circles_and_clashes(self):
+        source = random.Random(31)
+        ends = []
+        for _ in range(1500):
+            items = [random_program(source, 3, ("x", "x", "y", "z")) for _ in range(source.randint(0, 2))]
+            items.insert(source.randint(0, len(items)), read_term(source.choice(CIRCLES)[0]))
+            items.insert(source.randint(0, len(items)), read_term(source.choice(CLASHES)))
+            term = ("fun", "z", ("fun", "y", ("fun", "x", ("tuple", items))))
+            with self.assertRaises(NoPlainType) as caught:
+                Typing(term)
+            path = caught.exception.path
+            self.assertEqual(fault(infer, term), (NoType, path), term)
+            ends.append(path[3:4])
+        for step in range(3):
+            self.assertGreater(ends.count((step,)), 50)
 
     def test_circles_by_tails(self):
         for text, path in (("( fun r . ( if true then r else ( r with x = r ) ) )", (0,)),

@@ -4,8 +4,8 @@ import itertools
 import random
 import unittest
 
-from samples import (INT, X, fault, many_names, nested, no_integers, no_names, no_nodes, of, other_values,
-                     random_program, random_term, random_tree, sized, text_of, under, used_often)
+from samples import (INT, X, circles_ahead_of_clashes, fault, many_names, nested, no_integers, no_names, no_nodes, of,
+                     other_values, random_program, random_term, random_tree, sized, text_of, under, used_often)
 from vasttypes import libraries
 from vasttypes.common import common_instance
 from vasttypes.errors import InvalidBound, InvalidName, InvalidTerm, LimitExceeded, NoType
@@ -278,6 +278,12 @@ class Demand(unittest.TestCase):
         found, _ = demand(term=("var", "x"))
         found.append("y")
         self.assertEqual(demand(("var", "x"))[0], ["x"])
+
+    def test_circles_ahead_of_clashes(self):
+        for term, path in circles_ahead_of_clashes():
+            self.assertEqual(fault(demand, term), (NoType, path), term)
+            # Without the function around it, x is a free name of the term.
+            self.assertEqual(fault(demand, term[2]), (NoType, path[1:]), term)
 
     def test_largest_terms(self):
         term = sized(400)

@@ -5,8 +5,8 @@ import random
 import unittest
 
 from plain import BOOL, INT, Clash, Store, numbered
-from samples import (IDENTITY, X, every_kind, fault, nested, no_integers, no_nodes, of, other_values, random_program,
-                     random_term, text_of, under)
+from samples import (IDENTITY, X, circles_ahead_of_clashes, every_kind, fault, nested, no_integers, no_nodes, of,
+                     other_values, random_program, random_term, text_of, under)
 from vasttypes import unfolding
 from vasttypes.errors import InvalidBound, InvalidName, InvalidPath, InvalidTerm, LimitExceeded, NoType
 from vasttypes.graphs import towers
@@ -303,6 +303,8 @@ class Types(unittest.TestCase):
             self.assertEqual(fault(unfolded_type, ("var", "x"), k), (InvalidName, "x"))
             self.assertEqual(fault(unfolded_type, ("app", ("int", 1), ("int", 1)), k), (NoType, ()))
             self.assertEqual(fault(unfolded_type, ("app", ("int", 1)), k), (InvalidTerm, ()))
+        for wrong, path in circles_ahead_of_clashes()[:60]:
+            self.assertEqual(fault(unfolded_type, wrong, None), (NoType, path))
         term = read_term(DOUBLE)
         for k in [-1, 6, 7, 10 ** 300] + no_integers():
             self.assertEqual(fault(unfolded_type, term, k), (InvalidBound, "k"))

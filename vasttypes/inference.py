@@ -3,7 +3,7 @@
 from vasttypes.errors import InvalidBound, InvalidName, LimitExceeded, NoType
 from vasttypes.graphs import Vast
 from vasttypes.rules import Course
-from vasttypes.terms import MOST_FIELDS, check_term, free_uses, is_name, node_at, node_count, paths
+from vasttypes.terms import check_term, free_uses, is_name, node_at, node_count
 
 
 def is_library(value):
@@ -13,48 +13,41 @@ def is_library(value):
     return all([is_name(name) and isinstance(big, Vast) for name, big in value.items()])
 
 
-def clash(course, term, many):
-    """Run a Course up to the end of so many nodes; return the path of the node at which types clash, or None."""
+def are_kept(course, term, many):
+    """Run a Course up to the end of so many nodes, and tell whether all rules can be kept up to there."""
     try:
         course.run(term, many)
-    except NoType as broken:
-        return broken.path
-    return None
+    except NoType:
+        # Types that clash have become equal in part, so the web tells nothing of circles any more.
+        return False
+    return not course.web.has_circle()
 
 
-def are_kept(term, library, unknowns, many):
-    """Tell whether all rules can be kept up to the end of so many nodes."""
-    course = Course(library, unknowns)
-    return clash(course, term, many) is None and not course.web.has_circle()
-
-
-def broken_path(term, library, unknowns):
+def broken_path(term, library, unknowns, ends):
     """Return the path of the first node, in the order in which they end, up to which the rules cannot all be kept.
 
-    What cannot be kept up to a node cannot be kept up to a later one, so the place is found by trying halves.
+    The ends are the paths of the first nodes in this order, up to one up to which they cannot be kept.
     """
-    # A node ends behind all within it, as if another step that is above all others led to its end.
-    ends = sorted(paths(term), key=lambda path: path + (MOST_FIELDS,))
     kept = 0
     broken = len(ends)
+    # What cannot be kept up to a node cannot be kept up to a later one, so the place is found by trying halves; but
+    # first ahead of the last one, at which types mostly clash.
+    middle = broken - 1
     while broken - kept > 1:
-        middle = (kept + broken) // 2
-        if are_kept(term, library, unknowns, middle):
+        if are_kept(Course(library, unknowns), term, middle):
             kept = middle
         else:
             broken = middle
+        middle = (kept + broken) // 2
     return ends[broken - 1]
 
 
 def kept_course(term, library, unknowns):
     """Return the Course of a term that has been checked, and whose free names are known."""
     course = Course(library, unknowns)
-    path = clash(course, term, node_count(term))
-    if course.web.has_circle():
-        # It can be there since long before the types clashed.
-        path = broken_path(term, library, unknowns)
-    if path is not None:
-        raise NoType(path)
+    if not are_kept(course, term, node_count(term)):
+        # A type can be within itself since long before the node at which the course ended.
+        raise NoType(broken_path(term, library, unknowns, course.ends))
     return course
 
 
@@ -71,11 +64,10 @@ def type_if_any(term, library):
     """Return what infer_in returns for a term that has been checked, and None where it raises an error."""
     course = Course(library)
     try:
-        course.run(term, node_count(term))
-        if course.web.has_circle():
+        if not are_kept(course, term, node_count(term)):
             return None
         return course.web.vast_of(course.types_found[()])
-    except (NoType, LimitExceeded):
+    except LimitExceeded:
         return None
 
 

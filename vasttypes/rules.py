@@ -93,6 +93,8 @@ class Course:
         self.instances = {}
         self.types_found = {}
         self.definitions = []
+        # The paths of the nodes whose rules have been applied, the last one perhaps in vain.
+        self.ends = []
 
     def begin(self, term, path, names, around):
         """Return the Visit of a node."""
@@ -123,6 +125,7 @@ class Course:
                 visits.append(self.begin_next(visit))
                 continue
             visits.pop()
+            self.ends.append(visit.path)
             rule = RULES[visit.subject[0]]
             found = rule(self, visit)
             self.types_found[visit.path] = found

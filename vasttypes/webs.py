@@ -130,7 +130,10 @@ class Web:
         return result if self.joins(function, self.function(taken, result)) else None
 
     def joins(self, first, second):
-        """Make two nodes equal, and tell whether this is possible, apart from circles."""
+        """Make two nodes equal, and tell whether this is possible, apart from circles.
+
+        If it is not, they may have become equal in part, so that circles are lost or made: the web is spoilt.
+        """
         pairs = [(first, second)]
         while pairs:
             one, other = pairs.pop()
@@ -187,7 +190,7 @@ class Web:
         return True
 
     def has_circle(self):
-        """Tell whether a node is within itself."""
+        """Tell whether a node is within itself, in a web that is not spoilt."""
         leader = self.leader
         waiting = list(self.touched)
         done = {}
