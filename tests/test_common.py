@@ -74,6 +74,35 @@ def random_trees(source, count, levels=3, variables=2):
     return [tree for tree in found if fault(check_tree, tree) is None]
 
 
+def random_row(source):
+    """Return a tree with few kinds of types, and pairs of its paths, of which a good part has no result."""
+    def inner(levels):
+        if levels == 0 or source.random() < 0.3:
+            return source.choice([V0, V0, V1, INT, BOOL])
+        return source.choice([
+            lambda: ("fun", inner(levels - 1), inner(levels - 1)),
+            lambda: ("fun", inner(levels - 1), inner(levels - 1)),
+            lambda: ("tuple", [inner(levels - 1), inner(levels - 1)]),
+            lambda: ("record", [("a", inner(levels - 1))], source.choice([None, 4, 4]))])()
+    tree = ("tuple", [inner(2), inner(2), inner(2)])
+    parts = parts_of_tree(tree)
+    paths = [path for path, _ in parts]
+    variables = [path for path, part in parts if part[0] == "var"]
+    pairs = []
+    for _ in range(source.randint(2, 5)):
+        one, other = source.choice(paths), source.choice(paths)
+        how = source.choice(["within", "within", "again", "again", "same", "apart"])
+        if how == "within" and variables:
+            one = source.choice(variables)
+            other = one[:source.randrange(len(one))]
+        elif how == "again" and pairs:
+            one = source.choice(pairs[-1])
+        elif how == "same":
+            other = one
+        pairs.append((one, other) if source.random() < 0.5 else (other, one))
+    return tree, pairs
+
+
 class CommonInstance(unittest.TestCase):
     def test_pairs(self):
         for one, other, text in COMMON:
@@ -264,6 +293,51 @@ class Equated(unittest.TestCase):
                 self.assertEqual(None if part is None else part.tree(), results[-1] and results[-1][path])
             some, none = some + (found is not None), none + (found is None)
         self.assertGreater(min(some, none), 50)
+
+    def assert_fitting(self, big, pairs, many):
+        """Ask for the pairs one after another: the first so many fit together."""
+        for count in range(len(pairs) + 1):
+            self.assertEqual(fitting(big, pairs[:count]), min(count, many), (text_of(big), pairs[:count]))
+            self.assertEqual(fitting(big, tuple(pairs[:count])), min(count, many))
+            self.assertEqual(equated(big, pairs[:count]) is not None, count <= many)
+            self.assertEqual(becomes(big, pairs[:count], ()) is not None, count <= many)
+
+    def test_fitting_where_a_circle_is_ahead_of_a_clash(self):
+        # The first pair that has no result makes a part be within itself; a later one cannot be made equal at all.
+        for text, pairs, many in (
+                ("('a -> bool -> int) -> 'a", [((), (1,)), ((0, 1), (1,))], 0),
+                ("('a -> bool -> int) -> 'a", [((0, 1), (0, 1)), ((), (1,)), ((0, 1), (1,)), ((), ())], 1),
+                ("'a -> int -> int", [((), (0,)), ((1,), (0,))], 0),
+                ("('a * 'b) * (int * bool) * 'c", [((0, 0), (2,)), ((0,), (2,)), ((1,), (0,))], 1),
+                ("(bool -> bool) -> 'a -> 'a", [((1, 1), (1,)), ((1,), (1, 0)), ((), (1,))], 0),
+                ("{a: 'a | 'b} -> int -> int", [((0, 0), ()), ((1,), ())], 0),
+                ("{a: {b: int, xyz: 'a}, b: {b: bool, xyz: int} | 'b}", [((0, 1), (0,)), ((1,), (0,))], 0),
+                ("{a: int} * {a: {| 'a}}", [((1,), (1, 0)), ((0,), (1,))], 0),
+                ("{a: {b: int | 'a}, b: {b: {| 'b} | 'a}}", [((), (1, 0)), ((0,), (1,))], 0)):
+            self.assert_fitting(of(text), pairs, many)
+
+    def test_fitting_where_a_clash_makes_a_circle(self):
+        # What a pair that cannot be made equal would make equal in part is within itself.
+        for text, pairs, many in (
+                ("(int * 'a) * (bool * ('a -> int))", [((0, 0), (0, 0)), ((0,), (1,))], 1),
+                ("('a * int) * (('a -> int) * bool)", [((0, 0), (1, 0, 0)), ((0,), (1,))], 1),
+                ("'a -> int -> 'a", [((0,), (1, 1)), ((), (1,))], 1),
+                ("bool * (int * 'a)", [((1, 0), (1, 0)), ((1, 0), (1, 1)), ((), ()), ((1,), ())], 3),
+                ("{x: {x: bool}}", [((), ()), ((), (0,))], 1),
+                ("{a: {a: int | 'a} | 'a}", [((0, 0), (0, 0)), ((), (0,))], 1),
+                ("{a: int, b: {a: int | 'a} | 'b}", [((0,), (1, 0)), ((), (1,)), ((), ())], 1)):
+            self.assert_fitting(of(text), pairs, many)
+
+    def test_fitting_pair_after_pair(self):
+        source = random.Random(26)
+        ends = []
+        for _ in range(2500):
+            tree, pairs = random_row(source)
+            many = [expected(tree, pairs[:count]) is not None for count in range(len(pairs) + 1)].count(True) - 1
+            self.assert_fitting(vast(tree), pairs, many)
+            ends.append((many, many == len(pairs)))
+        for many in range(4):
+            self.assertGreater(ends.count((many, False)), 30)
 
     def test_fitting(self):
         pairs = [((0,), (1,)), ((0,), (2,))]

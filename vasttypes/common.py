@@ -50,7 +50,7 @@ def row_pairs(big, pairs):
 class Equating:
     """A type in which parts have been made equal: the first so many pairs of rows, apart from circles.
 
-    The pairs that are left begin with one that cannot be made equal, if there are some.
+    The pairs that are left begin with one that cannot be made equal, if there are some; the web is spoilt then.
     """
 
     def __init__(self, big, numbers):
@@ -84,6 +84,9 @@ def has_result(big, numbers):
 def most_fitting(big, numbers):
     """Return the greatest number of pairs of rows, from the first one on, that can be made equal."""
     equating = Equating(big, numbers)
+    if not equating.is_done:
+        # Circles count only where they come from pairs ahead of the one that cannot be made equal.
+        equating = Equating(big, numbers[:equating.many])
     if not equating.web.has_circle():
         return equating.many
     # With more pairs there is no result if there is none with fewer; mostly the last pair closes the circle.
